@@ -1,0 +1,206 @@
+"""Claims and wishes: what they say of a page and the picture that stands for it."""
+
+from strayplates.common import is_tuple, is_within, plain
+from strayplates.errors import BadClaim, BadWish
+from strayplates.picture import cells_of_run, holes, pieces, runs, white_runs
+from strayplates.words import WAYS, WHITE, is_hue, is_word, neighbours
+
+LOCAL = ("never", "thick", "narrow", "shut", "fringe", "keeps", "true")
+
+
+def _has_way(parts, many):
+    return len(parts) == many and isinstance(parts[0], str) and parts[0] in WAYS
+
+
+def _is_hue_alone(parts):
+    return len(parts) == 1 and is_hue(parts[0])
+
+
+def _is_thick(parts):
+    return _has_way(parts, 3) and is_word(parts[1]) and is_within(parts[2], 2, 4)
+
+
+def _is_narrow(parts):
+    return _has_way(parts, 3) and is_hue(parts[1]) and is_within(parts[2], 1, 4)
+
+
+def _is_shut(parts):
+    if not _has_way(parts, 4) or not is_hue(parts[1]) or not is_hue(parts[2]):
+        return False
+    return parts[1] != parts[2] and is_within(parts[3], 1, 3)
+
+
+def _is_fringe(parts):
+    return len(parts) == 2 and is_hue(parts[0]) and is_within(parts[1], 1, 2)
+
+
+def _is_bare(parts):
+    return parts == ()
+
+
+def _is_blank(parts):
+    if len(parts) != 4:
+        return False
+    top, left, height, width = parts
+    if not is_within(top, -50, 50) or not is_within(left, -50, 50):
+        return False
+    return is_within(height, 1, 20) and is_within(width, 1, 20)
+
+
+KINDS = {
+    "never": _is_hue_alone,
+    "thick": _is_thick,
+    "narrow": _is_narrow,
+    "shut": _is_shut,
+    "fringe": _is_fringe,
+    "keeps": _is_hue_alone,
+    "true": _is_bare,
+    "holes": _is_bare,
+    "pieces": _is_hue_alone,
+    "blank": _is_blank,
+}
+
+
+def is_claim(thing):
+    claim = plain(thing)
+    if not isinstance(claim, tuple) or claim == () or not isinstance(claim[0], str) or claim[0] not in KINDS:
+        return False
+    judge = KINDS[claim[0]]
+    return judge(claim[1:])
+
+
+def is_local(thing):
+    return is_claim(thing) and thing[0] in LOCAL
+
+
+def is_row_claim(thing):
+    if not is_claim(thing):
+        return False
+    return thing[0] == "never" or (thing[0] in ("thick", "narrow", "shut") and thing[1] == "across")
+
+
+def judged_local(claim):
+    """The local claim with tuples in the place of lists."""
+    if not is_local(claim):
+        raise BadClaim(claim)
+    return plain(claim)
+
+
+def _never_places(claim, page, picture):
+    return [(row, column) for row, column, colour in picture if colour == claim[1]]
+
+
+def _run_cells(way, found):
+    return [cell for run in found for cell in cells_of_run(way, run)]
+
+
+def _thick_places(claim, page, picture):
+    _, way, colour, least = claim
+    found = white_runs(picture, way) if colour == WHITE else runs(picture, way, colour)
+    return _run_cells(way, [run for run in found if run[2] < least])
+
+
+def _narrow_places(claim, page, picture):
+    _, way, colour, most = claim
+    return _run_cells(way, [run for run in runs(picture, way, colour) if run[2] > most])
+
+
+def _ends_of(way, run):
+    """The cells directly at the two ends of a run."""
+    row, column, length = run
+    if way == "across":
+        return (row, column - 1), (row, column + length)
+    return (row - 1, column), (row + length, column)
+
+
+def _shut_places(claim, page, picture):
+    _, way, colour, other, most = claim
+    found = []
+    for run in white_runs(picture, way):
+        if run[2] <= most:
+            ends = [picture[cell] for cell in _ends_of(way, run)]
+            cells = cells_of_run(way, run)
+            if ends in ([colour, other], [other, colour]) and any([cell in page for cell in cells]):
+                found = found + cells
+    return found
+
+
+def _fringe_places(claim, page, picture):
+    _, colour, most = claim
+    across, down = [
+        _run_cells(way, [run for run in runs(picture, way, colour) if run[2] > most]) for way in WAYS
+    ]
+    both = {cell: True for cell in down}
+    return [cell for cell in across if cell in both]
+
+
+def _keeps_places(claim, page, picture):
+    found = []
+    for row, column, colour in page:
+        cell = (row, column)
+        if colour == claim[1] and picture[cell] != colour:
+            if all([page[other] == colour for other in neighbours(cell)]):
+                found.append(cell)
+    return found
+
+
+def _true_places(claim, page, picture):
+    cells = [(row, column) for row, column, _ in page.cells + picture.cells]
+    return [cell for cell in cells if page[cell] != picture[cell]]
+
+
+def _blank_places(claim, page, picture):
+    _, top, left, height, width = claim
+    cells = [(row, column) for row, column, _ in picture]
+    return [(row, column) for row, column in cells if top <= row < top + height and left <= column < left + width]
+
+
+PLACES = {
+    "never": _never_places,
+    "thick": _thick_places,
+    "narrow": _narrow_places,
+    "shut": _shut_places,
+    "fringe": _fringe_places,
+    "keeps": _keeps_places,
+    "true": _true_places,
+    "blank": _blank_places,
+}
+
+
+def places(claim, page, picture):
+    if not is_claim(claim):
+        raise BadClaim(claim)
+    told = plain(claim)
+    if told[0] not in PLACES:
+        return ()
+    find = PLACES[told[0]]
+    return tuple(sorted(set(find(told, page, picture))))
+
+
+def holds(claim, page, picture):
+    if not is_claim(claim):
+        raise BadClaim(claim)
+    if claim[0] == "holes":
+        return len(holes(picture)) == len(holes(page))
+    if claim[0] == "pieces":
+        return len(pieces(picture, claim[1])) == len(pieces(page, claim[1]))
+    return places(claim, page, picture) == ()
+
+
+def judged_wish(wish):
+    """The wish with tuples in the place of lists."""
+    told = plain(wish)
+    if not is_tuple(told, 1, 6):
+        raise BadWish(-1)
+    for number, claim in enumerate(told):
+        if not is_claim(claim):
+            raise BadWish(number)
+    return told
+
+
+def breach(wish, page, picture):
+    for number, claim in enumerate(judged_wish(wish)):
+        if not holds(claim, page, picture):
+            cells = places(claim, page, picture)
+            return number, (cells[0] if cells else None)
+    return None
