@@ -390,7 +390,7 @@ class Package:
 
     def check_node(self, name, node):
         if isinstance(node, ast.stmt) and not isinstance(node, STATEMENTS) or isinstance(node, REFUSED):
-            self.complain(name, node, "L6", type(node).__name__)
+            self.complain(name, node, "L2" if isinstance(node, ast.Import) else "L6", type(node).__name__)
         if isinstance(node, ast.Constant):
             self.check_constant(name, node)
         if isinstance(node, ast.Name):

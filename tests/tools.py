@@ -76,8 +76,8 @@ def random_rule(rng, colours, inks, sides=("up", "left", "right", "down", "near"
     return (colour, rng.choice(sides), beside, printed)
 
 
-def random_book(rng, colours, inks, most=4):
-    return Book([random_rule(rng, colours, inks) for _ in range(rng.randint(0, most))])
+def random_book(rng, colours, inks, most=4, least=0):
+    return Book([random_rule(rng, colours, inks) for _ in range(rng.randint(least, most))])
 
 
 def rng(seed):

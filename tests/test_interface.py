@@ -1,0 +1,71 @@
+import importlib
+import inspect
+import unittest
+
+# For each module: its functions with their parameters, and its classes with those of their own methods;
+# properties and other values stand without parentheses.
+INTERFACE = {
+    "words": "WHITE WAYS SIDES is_word(thing) is_cell(thing) is_palette(thing) neighbours(cell)",
+    "shelf": "Shelf(inks): names hues __getitem__ __contains__ __len__ __iter__ __eq__ laid(colour,name) stack(names)",
+    "picture": """Picture(cells=()): __getitem__ __contains__ __len__ __iter__ __eq__ hues box moved(rows,columns)
+        turned(height,width) of(rows,*,top=0,left=0);
+        runs(picture,way,colour) pieces(picture,colour) holes(picture)""",
+    "plate": """Plate(cells=()): __contains__ __len__ __iter__ __eq__ __add__ __sub__ moved(rows,columns)
+        turned(height,width) block(top,left,height,width)""",
+    "press": """Press(shelf,units,boxes=()): names lies mirror __len__ __iter__ __eq__ off(lie) number_of(lie)
+        shift(number,lie) unit_of(name)""",
+    "job": "Job(press,plates): __eq__ shown(lie) printed(cell,lie) true_picture with_plate(number,plate)",
+    "claims": """is_claim(thing) is_local(thing) is_row_claim(thing) holds(claim,page,picture)
+        places(claim,page,picture) breach(wish,page,picture)""",
+    "book": """Book(rules=()): names __getitem__ __len__ __iter__ __eq__ __add__ but(number) counting(page,cell)
+        inks_at(page,cell) made(press,page)""",
+    "drawing": """Drawing(stamps=(),deeds=()): __len__ __iter__ __eq__ drawn(*,rows=0,columns=0) unrolled() painted
+        __add__; hidden(drawing) lean_drawing(drawing) plain_drawing(picture)""",
+    "forms": "forms(claim,colours) met(form,page,picture,*,rows=0,columns=0)",
+    "asking": "read_told(book,told,cell) want_told(press,book,lie,told,want)",
+    "cases": """Cases(press,book,colours,claim,*,bars=()): __bool__ __len__ __iter__;
+        judge_cases(press,book,colours,claim,table,*,bars=())""",
+    "pagebars": "PageBars(press,book,colours,claim,pairs): __bool__ __len__ __iter__ __contains__",
+    "band": """Band(press,colours,*,pace=1,bars=()): lies beginning onward(behind,lies) after(behind,step)
+        seen(book,behind,step) with_bars(*pairs); tape_seen(band,book,tape,lies)""",
+    "readers": "Reader(claim): BROKEN __call__(state,seen,colour) broken_at(seen,tape)",
+    "tapeverdict": "TapeVerdict(band,book,claim): __bool__ __len__ __iter__; judge_tapes(band,book,claim,table)",
+    "plan": """Plan(motifs,joints=(),first=(),last=()): __len__ __iter__ __eq__ __contains__ tape_of(design) live
+        follows(place) colour_of(place) designs(most) without(*joints)""",
+    "designverdict": """DesignVerdict(band,book,plan,claim): __bool__ __len__ __iter__;
+        judge_designs(band,book,plan,claim,table)""",
+}
+
+
+def told_parameters(function):
+    told = str(inspect.signature(function)).replace(" ", "")[1:-1]
+    return told.removeprefix("self,").removeprefix("self")
+
+
+class InterfaceTest(unittest.TestCase):
+    def check(self, holder, told, module):
+        name, _, rest = told.partition("(")
+        self.assertIn(name, vars(holder), told)
+        if rest:
+            function = getattr(holder, name)
+            self.assertEqual(told_parameters(function), rest[:-1], f"{holder.__name__}.{name}")
+            self.assertEqual(function.__module__, module)
+
+    def test_names_and_parameters(self):
+        for word, told in INTERFACE.items():
+            module = importlib.import_module(f"strayplates.{word}")
+            for part in told.split(";"):
+                head, colon, members = part.partition(":")
+                if colon:
+                    self.check(module, head.strip(), module.__name__)
+                    cls = getattr(module, head.strip().partition("(")[0])
+                    self.assertTrue(inspect.isclass(cls))
+                    for member in members.split():
+                        self.check(cls, member, module.__name__)
+                else:
+                    for function in part.split():
+                        self.check(module, function, module.__name__)
+
+
+if __name__ == "__main__":
+    unittest.main()
