@@ -64,7 +64,7 @@ class Band:
         return self.shown(self.printings(book, (*behind, step[0])), step[1])
 
     def with_bars(self, *pairs):
-        return Band(self.press, self.colours, pace=self.pace, bars=self.bars + plain(pairs))
+        return Band(self.press, self.colours, pace=self.pace, bars=self.bars + pairs)
 
     def is_colour(self, thing):
         """Whether the thing is white or of the palette."""

@@ -112,6 +112,6 @@ def judge_closed(walk, table):
 
 def _is_closed(walk, row, known):
     for _, _, follow in walk.moves(row):
-        if follow is None or follow not in known:
+        if follow not in known:
             return False
     return True

@@ -82,7 +82,7 @@ class BookTest(unittest.TestCase, Checks):
         Book((("red", inks), ("white", "up", "red", ()), ("red", "hemmed", "white", ()), ("red", "near", "red", ())))
         for rule in (None, "ab", ("red",), ("red", "up", ()), ("white", ()), ("Red", ()), (1, ()), ("red", None),
                      ("red", "sun"), ("red", ("sun", "sky")), ("red", ("sky", "sky")), ("red", (1,)),
-                     ("red", inks + ("inkz",)), ("red", ("Sky",)), ("red", "near", "blue"),
+                     ("red", inks + ("inkz",)), ("red", ("Sky",)), ("red", "near", "blue"), ("red", ("sun",), ("sun",)),
                      ("white", "up", "white", ()), ("red", "beside", "blue", ()), ("red", 1, "blue", ()),
                      ("red", ("up",), "blue", ()), ("red", "up", "Blue", ()), ("red", "up", "blue", None),
                      ("red", "up", "blue", (), ()), (("red",), ()), (True, "up", "blue", ())):

@@ -147,6 +147,21 @@ class CasesTest(unittest.TestCase, Checks):
         cases = Cases(press, wide, ("red",), ("keeps", "red"))
         self.assertEqual((len(cases.broken_page), cases.lie), (5, 0))
 
+    def test_a_later_row_with_fewer_inked_cells(self):
+        press = Press(Shelf((SUN,)), (("sun", 0),))
+        book = Book((("blue", "left", "blue", ("sun",)), ("red", ("sun",))))
+        cases = Cases(press, book, PALETTE, ("never", "yellow"))
+        self.assertEqual(cases.broken_page, Picture(((0, 0, "red"),)))
+
+    def test_a_later_form_with_fewer_inked_cells(self):
+        # Red alone shows two cells of yellow; only beside blue it shows one.
+        press = Press(Shelf((SUN,)), (("sun", 0),))
+        book = Book((("red", ("sun",)), ("white", "left", "red", ("sun",))))
+        cases = Cases(press, book, PALETTE, ("thick", "across", "yellow", 3))
+        self.assertEqual((cases.form, cases.broken_page), (1, Picture(((0, 1, "red"),))))
+        cases = Cases(press, book, PALETTE, ("thick", "across", "yellow", 2))
+        self.assertEqual((cases.form, cases.broken_page), (0, Picture(((0, 1, "red"), (0, 2, "blue")))))
+
     def test_less_than_one_inked_cell(self):
         press = Press(Shelf((SUN,)), (("sun", 0),))
         cases = Cases(press, Book((("white", "up", "red", ("sun",)),)), ("red",), ("never", "yellow"))
@@ -176,6 +191,8 @@ class CasesTest(unittest.TestCase, Checks):
                 self.assert_error(BadBars, {"number": 1}, call, press, Book(), palette, ("true",), *told,
                                   bars=(pairs[0], thing, None))
         self.assertTrue(Cases(press, Book(), palette, ("never", "red"), bars=listed(pairs)))
+        self.assert_error(BadBars, {"number": 3}, Cases, press, Book(), palette, ("true",), bars=pairs * 2)
+        self.assert_error(BadBars, {"number": 3}, judge_cases, press, Book(), palette, ("true",), None, bars=pairs * 2)
 
     def test_lists(self):
         bars, claim = listed(BARS), listed(SHUT)
@@ -198,6 +215,14 @@ class CasesTest(unittest.TestCase, Checks):
                                       cases.table))
         self.assert_error(TooMany, {"word": "case"}, Cases, self.wide((3, 3, 3, 2), (1, 0, 1, 1)), rules, ("a", "b"),
                           ("never", "tan"))
+
+    def test_4001_rows(self):
+        rules = Book((("a", "down", "a", ("sky", "sun")), ("white", "left", "a", ("sky",))))
+        press = two_press(((2, 2, 0, 2), (2, 0, 2, 0)), (1, 2))
+        ground = Ground(press, rules, ("a",), ())
+        form = forms(("never", "tan"), ("a",))[0]
+        self.assertEqual(sum([len(Tree(ground, lie, form, 4000).rows) for lie in press.lies]), 4001)
+        self.assert_error(TooMany, {"word": "case"}, Cases, press, rules, ("a",), ("never", "tan"))
 
     def wide(self, *boxes):
         return Press(Shelf((SUN,)), (("sun", 1),), boxes)
@@ -256,7 +281,8 @@ class JudgeTest(unittest.TestCase, Checks):
                           ("ask", cell, tuple([-2 if follow == first else follow for follow in follows])),
                           ("ask", cell, tuple([-1 if follow == first else follow for follow in follows])),
                           ("ask", cell, tuple([None if follow == first else follow for follow in follows])),
-                          ("ask", cell, (follows[0],) * len(follows)), ("ask", cell, follows, ())]
+                          ("ask", cell, (follows[0],) * len(follows)), ("ask", cell, follows, ()),
+                          ("same", cell, follows), ("open", cell, follows), ("Ask", cell, follows)]
                 if at > 0:
                     wrong.append(("ask", tree[0][1], follows))
             for thing in wrong:
@@ -288,6 +314,12 @@ class JudgeTest(unittest.TestCase, Checks):
     def test_the_order_of_rows_is_free(self):
         tree = (("ask", (0, 1), (3, 1, 2)), ("shut", 2), ("shut", 2), ("shut", 0))
         self.assertIsNone(self.judge((tree, *self.trees[1:])))
+
+    def test_rows_that_are_told_twice_or_tell_themselves(self):
+        for tree in ((("ask", (0, 1), (0, 1, 2)), ("shut", 2), ("shut", 2)),
+                     (("ask", (0, 1), (2, 1, 1)), ("shut", 2), ("shut", 0)),
+                     (("ask", (0, 1), (1, 2, 2)), ("shut", 0), ("shut", 2))):
+            self.assertEqual(self.judge((tree, *self.trees[1:])), 0)
 
     def test_bars_beside_told_cells(self):
         # (0, 0) and (0, 1) are asked; where the one is blue, the other one cannot be red.

@@ -24,7 +24,7 @@ WRONG = (("never",), ("never", "white"), ("never", "Red"), ("never", "red", 1), 
          ("pieces", "white"), ("blank", -51, 0, 1, 1), ("blank", 0, 51, 1, 1), ("blank", 0, 0, 0, 1),
          ("blank", 0, 0, 1, 21), ("blank", 0, 0, 21, 1), ("blank", 0, 0, True, 1), ("blank", 0, 0, 1),
          ("blank", False, 0, 1, 1), ("blank", 0, 0, 1, 1, 1), ("true", "true"), "true", "never", ("nothing",),
-         (("true",),), ((), "red"), (None,), (True, "red"), ("across", "red"))
+         (("true",),), ((), "red"), ({1: 2},), ({1}, "red"), ("never", {1}), (None,), (True, "red"), ("across", "red"))
 
 
 def picture_of(*rows):

@@ -107,7 +107,7 @@ class DrawingTest(unittest.TestCase, Checks):
         Drawing((("a", ("x" * 8,) * 6), ("b", (".",))))
         for stamp in (None, "ab", ("b",), ("b", ()), ("b", "x"), ("b", ("x",) * 7), ("b", ("",)), ("b", ("x" * 9,)),
                       ("b", ("x", "xx")), ("b", ("y",)), ("b", (1,)), ("b", (("x",),)), ("B", ("x",)), (1, ("x",)),
-                      ("a", (".",)), ("b", ("x",), 1), ("b", (" ",)), ("b", ("X",))):
+                      ("a", (".",)), ("b", ("x",), 1), ("b", ("x", ("x",))), ("b", ("x", None)), ("b", (" ",)), ("b", ("X",))):
             self.assert_error(BadStamp, {"number": 1}, Drawing, (("a", ("x",)), stamp, None), None)
         seven = tuple([(letter, ("x",)) for letter in "abcdefg"])
         self.assertEqual(len(Drawing(seven[:6]).stamps), 6)
@@ -149,6 +149,9 @@ class DrawingTest(unittest.TestCase, Checks):
                      ("again", 1, 0, 0, "ab"), ("again", 1, 0, 0, (None,)), ("again", 0, 0, 0, (("row", 0, 0, ()),)),
                      ("again", 1, 0, 0, (("put", "bush", 0, 0, "red"),)), ("again", 1, 0, 0, (deep,)),
                      ("again", 1, 0, 0, ("box", 0, 0, 1, 1, "red")), ("paint", 0, 0), (("box",), 0, 0, 1, 1, "red"),
+                     ("paint", 0, 0, ("red",)), ("paint", 0, 0, 1, 1, 1, 1, "red"), ("paint", 1, 0, 0, ()),
+                     ("paint", 0, 0, 1, 1, "red"), ("paint", "tree", 0, 0, "red"), ("dots", 0, 0, 1, 1, 1, 1, "Red"),
+                     ("dots", 0, 0, 1, 1, 1, 1, "red", 1), ("dots", 0, 0, 1, 1, 1, 1),
                      (True,), ("tree", (".x.", "xxx"))):
             self.assert_error(BadDeed, {"number": 1}, Drawing, (TREE,), (("row", 0, 0, ("red",)), deed, None))
         for thing in (None, "ab", 3, {}, {("box", 0, 0, 1, 1, "red")}):

@@ -50,6 +50,8 @@ class PictureTest(unittest.TestCase, Checks):
         self.assertIs([1, -2] in picture, True)
         self.assertIs((0, 0) in picture, False)
         self.assertEqual((picture.hues, picture.box), (("blue", "red"), (0, -2, 2, 4)))
+        self.assertEqual(picture.moved(7, 9).box, (7, 7, 2, 4))
+        self.assertEqual(Picture(tuple([(0, k, hue) for k, hue in enumerate("gfedcba")])).hues, tuple("abcdefg"))
 
     def test_empty(self):
         self.assertEqual((Picture().cells, Picture().hues, Picture().box), ((), (), None))
@@ -121,6 +123,15 @@ class PictureTest(unittest.TestCase, Checks):
         self.assertEqual(holes(cross), (((1, 1),),))
         self.assertEqual(len(pieces(cross, "red")), 4)
 
+    def test_shapes_that_turn_back(self):
+        rows = ("rrrrrrr", "r.r.r.r", "r.r...r", "r...r.r", "rrrrrrr")
+        picture = Picture.of([["red" if sign == "r" else "white" for sign in row] for row in rows])
+        self.assertEqual(holes(picture), (tuple([
+            (1, 1), (1, 3), (1, 5), (2, 1), (2, 3), (2, 4), (2, 5), (3, 1), (3, 2), (3, 3), (3, 5)]),))
+        turned = Picture.of([["blue" if sign == "." else "white" for sign in row] for row in rows])
+        self.assertEqual(pieces(turned, "blue"), holes(picture))
+        self.assertEqual(holes(picture.turned(9, 9)), told_holes(picture.turned(9, 9)))
+
     def test_far_apart(self):
         far = Picture(((0, 0, "red"),)).moved(10 ** 39, 10 ** 39)
         self.assertEqual(holes(far), ())
@@ -140,6 +151,7 @@ class PictureTest(unittest.TestCase, Checks):
             for way in ("across", "down"):
                 self.assertEqual(runs(picture, way, "red"), told_runs(picture, way, "red"))
             groups = pieces(picture, "red")
+            self.assertEqual(groups, tuple([tuple(sorted(group)) for group in groups]))
             self.assertEqual(sorted([cell for group in groups for cell in group]),
                              [(row, column) for row, column, hue in picture if hue == "red"])
             self.assertEqual(groups, tuple(sorted(groups)))

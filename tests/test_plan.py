@@ -41,6 +41,7 @@ class PlanTest(unittest.TestCase, Checks):
         for other in (Plan(MOTIFS[:2]), Plan(MOTIFS, JOINTS[:2], ("b", "dead"), ("a", "b")),
                       Plan(MOTIFS, JOINTS, ("b",), ("a", "b")), Plan(MOTIFS, JOINTS, ("b", "dead"), ("a",))):
             self.assertTrue(plan != other)
+        self.assertTrue(plan != Plan((("b", ("red",)), *MOTIFS[1:]), JOINTS, ("b", "dead"), ("a", "b")))
         for thing in ODD:
             self.assertIs(plan == thing, False)
 
@@ -139,6 +140,10 @@ class PlanTest(unittest.TestCase, Checks):
             names = [name for name, _ in plan.motifs]
             designs = told_designs(plan, 5)
             self.assertEqual(list(plan.designs(5)), designs)
+            for many in (1, 2, 3):
+                for row in itertools.product(names, repeat=many):
+                    self.assertIs(row in plan, row in designs)
+                    self.assertIs(list(row) in plan, row in designs)
             # No way from the first ones needs more than five motifs, as there are at most four.
             self.assertEqual(set(plan.live), {name for design in told_designs(plan, 7) for name in design}
                              if len(names) < 4 else set(plan.live))

@@ -22,6 +22,13 @@ class PlateTest(unittest.TestCase, Checks):
 
     def test_wrong_cells(self):
         Plate(((-50, -50), (50, 50)))
+        for at in (0, 1):
+            for number, fit in ((-51, False), (-50, True), (50, True), (51, False)):
+                cell = (number, 7) if at == 0 else (7, number)
+                if fit:
+                    self.assertEqual(Plate((cell,)).cells, (cell,))
+                else:
+                    self.assert_error(BadPlate, {"number": 0}, Plate, (cell,))
         for cell in ((-51, 0), (0, 51), (True, 0), (0,), (0, 0, 0), None, "ab", ("0", 0), (0, 0)):
             self.assert_error(BadPlate, {"number": 1}, Plate, ((0, 0), cell, None))
         cells = tuple(itertools.product(range(4), range(51)))[:201]

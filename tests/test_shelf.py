@@ -71,7 +71,7 @@ class ShelfTest(unittest.TestCase, Checks):
                     ("sky", "white", ()), ("sky", "Blue", ()), ("sky", "blue", None), ("sky", "blue", "ab"),
                     ("sky", "blue", (("yellow",),)), ("sky", "blue", (("white", "green"),)),
                     ("sky", "blue", (("b", "x"), ("a", "y"))), ("sky", "blue", (("a", "x"), ("a", "y"))),
-                    ("sky", "blue", (("a", True),)), ("sky", "blue", ((1, "a"),)), ("sky", "blue", ("ab",)),
+                    ("sky", "blue", (("a", True),)), ("sky", "blue", (("a", "b", "c"),)), ("sky", "blue", ((1, "a"),)), ("sky", "blue", ("ab",)),
                     ("sky", "blue", many), SUN):
             self.assert_error(BadInk, {"number": 1}, Shelf, (SUN, ink, None))
         self.assertEqual(Shelf((("white", "blue", ()),)).names, ("white",))

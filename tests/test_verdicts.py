@@ -1,5 +1,6 @@
 import itertools
 import unittest
+from unittest import mock
 
 from strayplates.band import Band, tape_seen
 from strayplates.book import Book
@@ -160,6 +161,15 @@ class TapeVerdictTest(unittest.TestCase, Checks):
         self.assertEqual(judge_tapes(band, book, ("never", "tan"), ((band.beginning, None, 0),)), 0)
         self.assertFalse(TapeVerdict(band, book, ("never", "blue")))
 
+    def test_2000_and_2001_standings(self):
+        band = Band(two_press(((0, 0, 2, 2),)), ("a", "blue"), pace=0, bars=(("a", "a"), ("blue", "blue")))
+        self.assertEqual(len(TapeVerdict(band, plain_book(), ("shut", "across", "blue", "tan", 3)).table), 2000)
+        band = Band(two_press(((0, 0, 1, 1), (0, 0, 2, 2))), ("blue",))
+        claim = ("shut", "across", "blue", "tan", 3)
+        moves = tape_moves(band, plain_book(), Reader(claim))
+        self.assertEqual(len(found((band.beginning, None, 0), moves, 2001)[0]), 2001)
+        self.assert_error(TooMany, {"word": "standing"}, TapeVerdict, band, plain_book(), claim)
+
     def test_against_plain_ways(self):
         chance = rng(31)
         kept = broken = 0
@@ -258,10 +268,21 @@ class JudgeTapesTest(unittest.TestCase, Checks):
                 closed = all(follow in (*table, row) for _, follow in tape_moves(band, Book(), Reader(claim))(row)) \
                     if 0 <= state <= greatest else False
                 self.assertEqual(answer, None if closed else len(table))
-        # A state of just the greatest number can be closed, too.
-        rows = tuple([(behind, lies, state) for behind in itertools.product(("white", "red"), repeat=2)
-                      for lies in (None, (0,)) for state in range(17)])
-        self.assertIsNone(judge_tapes(band, Book(), ("shut", "across", "tan", "pink", 3), rows))
+
+    def test_rows_beyond_the_ranges_that_would_be_closed(self):
+        band = Band(two_press(((0, 0, 0, 0),)), ("red",))
+        for claim, states in ((("never", "tan"), [0]), (("thick", "across", "tan", 4), [0, 4]),
+                              (("narrow", "across", "tan", 3), [0, 1, 2, 3]),
+                              (("shut", "across", "tan", "pink", 3), list(range(17)))):
+            rows = [(behind, lies, state) for state in [*states, states[-1] + 1] for lies in (None, (0,))
+                    for behind in itertools.product(("white", "red"), repeat=2)]
+            self.assertEqual(judge_tapes(band, Book(), claim, rows), 8 * len(states))
+            self.assertIsNone(judge_tapes(band, Book(), claim, rows[:8 * len(states)]))
+        # With a colour that is not of the palette, all that follows is in the table, but these are no rows.
+        strange = [(behind, (0,), 0) for behind in (("tan", "tan"), ("tan", "white"), ("tan", "red"))]
+        table = [(behind, lies, 0) for lies in (None, (0,)) for behind in itertools.product(("white", "red"), repeat=2)]
+        self.assertEqual(judge_tapes(band, Book(), ("never", "tan"), (*table, *strange)), 8)
+        self.assertIsNone(judge_tapes(band, Book(), ("never", "tan"), table))
 
 
 class DesignVerdictTest(unittest.TestCase, Checks):
@@ -310,6 +331,23 @@ class DesignVerdictTest(unittest.TestCase, Checks):
         self.assert_error(TooMany, {"word": "standing"}, DesignVerdict, band, self.book, plan, ("never", "tan"))
         start = ((-1, 0), band.beginning, None, 0)
         self.assertEqual(judge_designs(band, self.book, plan, ("never", "tan"), (start,)), 0)
+
+    def test_2001_standings(self):
+        band = Band(two_press(((0, 0, 2, 2), (0, 0, 2, 2))), ("blue",))
+        motifs = (("a", ("white", "white", "blue", "white")), ("b", ("white", "blue")), ("c", ("white", "blue", "white")),
+                  ("d", ("blue", "blue", "blue")))
+        joints = (("a", "a"), ("a", "b"), ("a", "c"), ("b", "a"), ("b", "b"), ("c", "a"), ("c", "b"), ("d", "a"),
+                  ("d", "b"), ("d", "d"))
+        plan = Plan(motifs, joints, tuple("abcd"), tuple("abcd"))
+        moves = design_moves(band, self.book, plan, Reader(("never", "tan")))
+        start = ((-1, 0), band.beginning, None, 0)
+        self.assertEqual(len(found(start, moves, 2001)[0]), 2001)
+        self.assert_error(TooMany, {"word": "standing"}, DesignVerdict, band, self.book, plan, ("never", "tan"))
+
+    def test_2000_standings_are_not_too_many(self):
+        with mock.patch("strayplates.designverdict.Finding", side_effect=Finding) as finding:
+            DesignVerdict(self.band, self.book, self.plan, SHUT)
+        self.assertEqual(finding.call_args.args[1], 2000)
 
     def test_against_plain_ways(self):
         chance = rng(37)
