@@ -4,14 +4,17 @@ from unittest import mock
 
 from strayplates.band import Band, tape_seen
 from strayplates.book import Book
+from strayplates.claims import holds
 from strayplates.common import Finding
 from strayplates.designverdict import DesignVerdict, judge_designs
 from strayplates.errors import BadClaim, TooMany, Unlike
+from strayplates.picture import Picture
 from strayplates.plan import Plan
 from strayplates.press import Press
 from strayplates.readers import Reader
 from strayplates.shelf import Shelf
 from strayplates.tapeverdict import TapeVerdict, judge_tapes
+from tests.test_band_readers import random_tape, wander
 from tests.test_plan import random_plan
 from tests.tools import ODD, ROSE, SKY, SUN, Checks, listed, plain_book, random_book, rng, two_press
 
@@ -188,10 +191,19 @@ class TapeVerdictTest(unittest.TestCase, Checks):
             if told:
                 kept += 1
                 self.check_table(chance, band, book, claim, told.table)
+                self.check_tapes(chance, band, book, claim)
             else:
                 broken += 1
                 self.check_story(band, book, reader, told)
         self.assertGreater(min(kept, broken), 25)
+
+    def check_tapes(self, chance, band, book, claim):
+        """The claim holds for tapes, however they are wandered along, as a claim of pictures."""
+        for _ in range(5):
+            tape = random_tape(chance, band, chance.randint(0, 6))
+            seen = tape_seen(band, book, tape, wander(chance, band, len(tape) + band.depth))
+            picture = Picture.of((seen,), left=-band.left - 1)
+            self.assertTrue(holds(claim, Picture.of((tape,)), picture))
 
     def check_story(self, band, book, reader, told):
         self.assertEqual(told.tape, tuple([colour for colour, _ in told.story]))
