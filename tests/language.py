@@ -91,6 +91,7 @@ class Package:
         self.methods = {}
         self.stored = {}
         self.generators = set()
+        self.lambdas = []
         for tree in self.trees.values():
             self.learn(tree)
 
@@ -147,6 +148,7 @@ class Package:
                 self.check_class(name, cls)
             for function in own_functions(tree):
                 self.check_function(name, function)
+            self.lambdas = [node for node in ast.walk(tree) if isinstance(node, ast.Lambda)]
             for node in ast.walk(tree):
                 self.check_node(name, node)
         self.check_pure()
@@ -277,9 +279,6 @@ class Package:
                 self.complain(name, 1, "L15", f"{word} is bound twice")
             if hasattr(builtins, word):
                 self.complain(name, 1, "L15", f"{word} is a builtin")
-            if word in self.classes and not isinstance(self.classes[word], ast.ClassDef):
-                self.complain(name, 1, "L15", word)
-        files = {own[:-3] for own in self.files}
         barred = {node.name for node in tree.body if isinstance(node, ast.ClassDef)}
         barred |= {alias.name for node in tree.body if isinstance(node, ast.ImportFrom) for alias in node.names}
         for function in own_functions(tree):
@@ -290,7 +289,6 @@ class Package:
                     self.complain(name, function, "L15", f"{word} is a class or an import of this file")
                 if hasattr(builtins, word):
                     self.complain(name, function, "L15", f"{word} is a builtin")
-        return files
 
     def check_word(self, name, node, word, attribute=False):
         if is_dunder(word) and (word in DUNDERS or word in OPERATORS):
@@ -420,6 +418,9 @@ class Package:
                 self.complain(name, node, "L19", "it does not create its error")
         if isinstance(node, ast.Slice) and node.step is not None and ast.unparse(node.step) == "0":
             self.complain(name, node, "L7", "a step of 0")
+        if isinstance(node, ast.Lambda) and any(
+                other is not node and other.lineno == node.lineno for other in self.lambdas):
+            self.complain(name, node, "L13", "two lambdas on one line")
         if isinstance(node, ast.Starred) and isinstance(node.above, ast.Call):
             if not isinstance(node.value, (ast.Name, ast.Attribute)):
                 self.complain(name, node, "L7", "behind a star in a call")
@@ -490,7 +491,7 @@ class Package:
                 self.check_at_once(name, node, word)
             if word in self.generators:
                 self.check_at_once(name, node, word)
-        if isinstance(func, (ast.Constant, ast.Call, ast.Subscript)) and not isinstance(func, ast.Subscript):
+        if isinstance(func, (ast.Constant, ast.Call)):
             self.complain(name, node, "L7", "what is called")
 
     def check_builtin_call(self, name, node, word):
@@ -530,7 +531,8 @@ class Package:
         needed |= {part.arg for part, value in zip(told.kwonlyargs, told.kw_defaults) if value is None}
         passed = places[:len(node.args)] + [keyword.arg for keyword in node.keywords]
         known = set(places) | {part.arg for part in told.kwonlyargs}
-        if len(node.args) > len(places) or len(set(passed)) < len(passed) or set(passed) - known or needed - set(passed):
+        twice = len(node.args) > len(places) or len(set(passed)) < len(passed)
+        if twice or set(passed) - known or needed - set(passed):
             self.complain(name, node, "L22", f"the arguments of {word}")
 
     def check_at_once(self, name, node, word):
@@ -542,7 +544,8 @@ class Package:
                 return
         if isinstance(above, ast.Call) and word == "range" and ast.unparse(above.func) in ("len", "reversed"):
             return
-        if isinstance(above, ast.Compare) and word in ("range", "keys") and isinstance(above.ops[0], (ast.In, ast.NotIn)):
+        asked = isinstance(above, ast.Compare) and isinstance(above.ops[0], (ast.In, ast.NotIn))
+        if asked and word in ("range", "keys"):
             return
         if isinstance(above, ast.Assign) and isinstance(above.targets[0], ast.Name) and word == "range":
             return
@@ -641,6 +644,9 @@ class Package:
             for value in told)}
         handed = {part.arg for part in parameters(function)}
         for node in ast.walk(function):
+            if isinstance(node, ast.Call) and isinstance(node.func, ast.Attribute):
+                if node.func.attr in self.methods and node.func.attr in self.stored:
+                    self.complain(name, node, "L18", f"{node.func.attr} is an attribute elsewhere")
             what = self.changed(node)
             if what is not None and what not in own and what.split(".")[0] not in objects:
                 self.complain(name, node, "L5", f"an operator or a property runs this, and {what} is changed")

@@ -9,7 +9,7 @@ from strayplates.picture import Picture
 from strayplates.press import Press
 from strayplates.readers import Reader
 from strayplates.shelf import Shelf
-from tests.tools import ODD, ROSE, SKY, SUN, Checks, listed, plain_book, random_book, rng, two_press
+from tests.tools import ODD, ROSE, SKY, SUN, Checks, listed, random_book, rng, two_press
 
 PALETTE = ("blue", "red")
 PAIRS = tuple(itertools.product(("a", "b", "c"), repeat=2))

@@ -69,6 +69,7 @@ BAD = (
     ("L10", "def f():\n" + "    told(1)\n" * 41), ("L10", "A = \"" + "a" * 130 + "\"\n"),
     ("L12", "def f(_wally):\n    return _wally\n"), ("L12", "def f(__a):\n    return __a\n"),
     ("L12", "def f(rows):\n    for _ in rows:\n        told(_)\n"),
+    ("L13", "def f(rows):\n    return told(lambda a: a), told(lambda a: 1)\n"),
     ("L14", "A = \"\u00e9\"\n"), ("L17", "def f(rows):\n    return rows.open\n"), ("L17", "def compile():\n    return 1\n"),
     ("L17", "A = \"the enum\"\n"), ("L17", "# a dataclass\n"),
     ("L18", "def f():\n    return [Box]\n"), ("L18", "def f(box):\n    return box.nothing\n"),

@@ -3,7 +3,7 @@ import unittest
 
 from strayplates.errors import BadPicture, NoColour
 from strayplates.picture import Picture, holes, pieces, runs
-from tests.tools import ODD, Checks, listed, random_picture, rng
+from tests.tools import ODD, Checks, random_picture, rng
 
 
 def told_holes(picture):

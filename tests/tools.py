@@ -46,10 +46,6 @@ def listed(thing):
     return [listed(part) for part in thing] if isinstance(thing, (tuple, list)) else thing
 
 
-def shelf_of(*inks):
-    return Shelf(inks)
-
-
 def two_press(boxes=((0, 0, 0, 1),), passes=(0, 1)):
     return Press(Shelf((SUN, SKY)), tuple(zip(("sun", "sky"), passes)), boxes)
 

@@ -1,0 +1,124 @@
+"""Promise [1]: what is handed in does not change, and objects stay as they were made."""
+
+import copy
+import unittest
+
+from strayplates.asking import read_told, want_told
+from strayplates.band import Band, tape_seen
+from strayplates.book import Book
+from strayplates.cases import Cases, judge_cases
+from strayplates.claims import breach, holds, is_claim, places
+from strayplates.designverdict import DesignVerdict, judge_designs
+from strayplates.drawing import Drawing, hidden, lean_drawing
+from strayplates.errors import PlateError
+from strayplates.forms import forms, met
+from strayplates.job import Job
+from strayplates.pagebars import PageBars
+from strayplates.picture import Picture
+from strayplates.plan import Plan
+from strayplates.plate import Plate
+from strayplates.press import Press
+from strayplates.readers import Reader
+from strayplates.shelf import Shelf
+from strayplates.tapeverdict import TapeVerdict, judge_tapes
+from strayplates.words import is_cell, is_palette, neighbours
+from tests.tools import SKY, SUN, Checks, listed, plain_book, two_press
+
+PALETTE = ["blue", "red"]
+SHUT = ["shut", "across", "yellow", "blue", 1]
+BARS = [["blue", "red"]]
+MOTIFS = [["a", ["red", "blue"]], ["b", ["white"]]]
+STAMPS = [["dot", ["x"]]]
+DEEDS = [["box", 0, 0, 2, 2, "red"], ["again", 2, 0, 1, [["put", "dot", 0, 0, "blue"]]]]
+
+
+class ArgumentsTest(unittest.TestCase, Checks):
+    def setUp(self):
+        self.press, self.book = two_press(), plain_book()
+        self.band = Band(self.press, PALETTE, bars=BARS)
+        self.plan = Plan(MOTIFS, [["a", "b"]], ["a"], ["b"])
+        self.page = Picture([[0, 0, "red"], [0, 1, "blue"]])
+
+    def calls(self):
+        """Each call with lists wherever a tuple can be passed."""
+        press, book, band, plan, page = self.press, self.book, self.band, self.plan, self.page
+        trees = listed(Cases(press, book, PALETTE, SHUT, bars=BARS).table)
+        tapes = listed(TapeVerdict(band, Book(), ["never", "red"]).table)
+        designs = listed(DesignVerdict(band, Book(), plan, ["never", "red"]).table)
+        return (
+            (is_cell, [0, 1]), (is_palette, PALETTE), (neighbours, [0, 1]), (is_claim, SHUT),
+            (Shelf, listed([SUN, SKY])), (press.shelf.stack, ["sun", "sky"]),
+            (Picture, [[0, 0, "red"]]), (Picture.of, [["red", "white"], []]), (page.__getitem__, [0, 1]),
+            (Plate, [[0, 0], [0, 1]]), (Press, press.shelf, [["sun", 0]], [[0, 0, 0, 1]]),
+            (press.off, [[0, 1]]), (press.number_of, [[0, 1]]), (press.shift, 1, [[0, 1]]),
+            (Job, press, [Plate(), Plate([[0, 0]])]), (Job(press, [Plate(), Plate()]).shown, [[0, 1]]),
+            (Job(press, [Plate(), Plate()]).printed, [0, 0], [[0, 1]]),
+            (holds, SHUT, page, page), (places, SHUT, page, page), (breach, [SHUT, ["true"]], page, page),
+            (Book, [["red", ["sun"]], ["blue", "near", "red", ["sky"]]]), (book.counting, page, [0, 0]),
+            (book.inks_at, page, [0, 0]), (Drawing, STAMPS, DEEDS),
+            (forms, SHUT, PALETTE), (met, listed(forms(SHUT, PALETTE)[0]), page, page),
+            (read_told, book, [[0, 0, "red"]], [0, 0]),
+            (want_told, press, book, [[0, 1]], [[0, 0, "red"]], ["shows", [0, 0], "yellow"]),
+            (judge_cases, press, book, PALETTE, SHUT, trees), (PageBars, press, book, PALETTE, SHUT, BARS),
+            (band.onward, ["white"] * 3, [0]), (band.after, ["white"] * 3, ["red", [0]]),
+            (band.seen, book, ["white"] * 3, ["red", [0]]), (band.with_bars, ["red", "red"]),
+            (tape_seen, band, book, ["red"], [[0]] * 4), (Reader, ["never", "red"]),
+            (Reader(["never", "red"]).broken_at, ["blue", "red"], ["red", "red"]),
+            (judge_tapes, band, Book(), ["never", "red"], tapes),
+            (Plan, MOTIFS, [["a", "b"]], ["a"], ["b"]), (plan.tape_of, ["a", "b"]), (plan.follows, [0, 1]),
+            (plan.colour_of, [0, 1]), (plan.without, ["a", "b"]), (plan.__contains__, ["a", "b"]),
+            (judge_designs, band, Book(), plan, ["never", "red"], designs))
+
+    def test_lists_stay_as_they_are(self):
+        for call, *told in self.calls():
+            kept = [copy.deepcopy(thing) for thing in told if isinstance(thing, list)]
+            call(*told)
+            self.assertEqual([thing for thing in told if isinstance(thing, list)], kept)
+
+    def test_tuples_bring_the_same(self):
+        def tuples(thing):
+            return tuple([tuples(part) for part in thing]) if isinstance(thing, list) else thing
+
+        for call, *told in self.calls():
+            one, other = call(*told), call(*[tuples(thing) for thing in told])
+            if isinstance(one, (tuple, str, int, bool, type(None), Picture, Plate, Press, Job, Book, Drawing, Plan, Shelf)):
+                self.assertEqual(one, other)
+                self.assert_tuples(one)
+            else:
+                self.assertEqual(vars(one).keys(), vars(other).keys())
+
+    def test_objects_that_are_asked_by_turns(self):
+        still = Band(self.press, PALETTE, pace=0)
+        other = Plan(MOTIFS, [["b", "a"]], ["b"], ["a"])
+        drawings = Drawing(STAMPS, DEEDS), Drawing(STAMPS, DEEDS[:1])
+        told = []
+        for _ in range(2):
+            told.append((
+                self.band.onward(self.band.beginning, (1,)), still.onward(still.beginning, (1,)),
+                list(self.plan.designs(3)), list(other.designs(3)), self.plan.live, other.follows((-1, 0)),
+                drawings[0].drawn().cells, drawings[1].drawn().cells, hidden(drawings[0]), drawings[0].unrolled(),
+                lean_drawing(drawings[0]).deeds, self.press.lies, self.book.made(self.press, self.page).plates[0].cells,
+                Cases(self.press, self.book, PALETTE, SHUT).broken_page.cells, tuple(self.page), tuple(self.book)))
+        self.assertEqual(told[0], told[1])
+        self.assertNotEqual(told[0][0], told[0][1])
+
+    def test_nothing_has_changed_behind_an_error(self):
+        kept = [copy.deepcopy(vars(thing)) for thing in (self.plan, self.band.press.shelf, self.book)]
+        for call, *told in (
+                (self.plan.tape_of, ("a", "tree")), (self.plan.without, ("a", "b"), ("a", "a")),
+                (self.press.shelf.stack, ("sun", "moon")), (self.book.but, 7), (self.band.with_bars, ("a", "b")),
+                (self.press.shift, 9, None), (tape_seen, self.band, self.book, ("red", "tan"), ())):
+            with self.assertRaises(PlateError):
+                call(*told)
+        self.assertEqual([vars(thing) for thing in (self.plan, self.band.press.shelf, self.book)], kept)
+
+    def test_a_string_is_never_taken_for_a_tuple(self):
+        self.assertIs(is_palette("abc"), False)
+        self.assertIs(is_cell("12"), False)
+        self.assertIs(is_claim("true"), False)
+        self.assertIs("ab" in self.plan, False)
+        self.assertIs("ab" in self.page, False)
+
+
+if __name__ == "__main__":
+    unittest.main()
