@@ -1,5 +1,6 @@
 """What can be told of a cell when only some cells of the page are told."""
 
+from strayplates.book import inks_of
 from strayplates.common import plain
 from strayplates.press import shift_in
 from strayplates.words import SIDES, WHITE, neighbours
@@ -26,18 +27,27 @@ def _fit(rule, told, cell):
     return UNMET if side == "near" else MET
 
 
-def reading(rules, told, cell):
-    """How the rules read a cell, by a dict of the colours of the cells that are told."""
+def counting_told(rules, told, cell):
+    """Which rule counts at a cell, by a dict of the colours of the cells that are told, or what is needed for this.
+
+    Either ("needs", cell), or ("counts", the number of the rule, or None).
+    """
     if cell not in told:
         return "needs", cell
-    for rule in rules:
+    for number, rule in enumerate(rules):
         if rule[0] == told[cell]:
             fit = _fit(rule, told, cell)
             if fit == MET:
-                return "prints", rule[-1]
+                return "counts", number
             if fit != UNMET:
                 return fit
-    return "prints", ()
+    return "counts", None
+
+
+def reading(rules, told, cell):
+    """How the rules read a cell, by a dict of the colours of the cells that are told."""
+    answer = counting_told(rules, told, cell)
+    return answer if answer[0] == "needs" else ("prints", inks_of(rules, answer[1]))
 
 
 def want_by(press, book, lie, told, want):

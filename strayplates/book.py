@@ -44,10 +44,14 @@ def counting_rule(rules, here, around):
     return None
 
 
+def inks_of(rules, number):
+    """The inks that are printed where the rule with this number counts, none where it is None."""
+    return () if number is None else rules[number][-1]
+
+
 def inks_by(rules, here, around):
     """The inks that the rules print at such a cell."""
-    number = counting_rule(rules, here, around)
-    return () if number is None else rules[number][-1]
+    return inks_of(rules, counting_rule(rules, here, around))
 
 
 class Book:
@@ -92,8 +96,7 @@ class Book:
         return counting_rule(self.rules, page[cell], [page[other] for other in neighbours(cell)])
 
     def inks_at(self, page, cell):
-        number = self.counting(page, cell)
-        return () if number is None else self.rules[number][-1]
+        return inks_of(self.rules, self.counting(page, cell))
 
     def made(self, press, page):
         """The job that the book makes of the page for the press."""

@@ -3,70 +3,49 @@
 from strayplates.common import is_tuple, is_within, plain
 from strayplates.errors import BadClaim, BadWish
 from strayplates.picture import cells_of_run, holes, pieces, runs, white_runs
-from strayplates.words import WAYS, WHITE, is_hue, is_word, neighbours
+from strayplates.words import WAYS, WHITE, is_word, neighbours
 
 LOCAL = ("never", "thick", "narrow", "shut", "fringe", "keeps", "true")
 
 
-def _has_way(parts, many):
-    return len(parts) == many and isinstance(parts[0], str) and parts[0] in WAYS
-
-
-def _is_hue_alone(parts):
-    return len(parts) == 1 and is_hue(parts[0])
-
-
-def _is_thick(parts):
-    return _has_way(parts, 3) and is_word(parts[1]) and is_within(parts[2], 2, 4)
-
-
-def _is_narrow(parts):
-    return _has_way(parts, 3) and is_hue(parts[1]) and is_within(parts[2], 1, 4)
-
-
-def _is_shut(parts):
-    if not _has_way(parts, 4) or not is_hue(parts[1]) or not is_hue(parts[2]):
-        return False
-    return parts[1] != parts[2] and is_within(parts[3], 1, 3)
-
-
-def _is_fringe(parts):
-    return len(parts) == 2 and is_hue(parts[0]) and is_within(parts[1], 1, 2)
-
-
-def _is_bare(parts):
-    return parts == ()
-
-
-def _is_blank(parts):
-    if len(parts) != 4:
-        return False
-    top, left, height, width = parts
-    if not is_within(top, -50, 50) or not is_within(left, -50, 50):
-        return False
-    return is_within(height, 1, 20) and is_within(width, 1, 20)
-
-
-KINDS = {
-    "never": _is_hue_alone,
-    "thick": _is_thick,
-    "narrow": _is_narrow,
-    "shut": _is_shut,
-    "fringe": _is_fringe,
-    "keeps": _is_hue_alone,
-    "true": _is_bare,
-    "holes": _is_bare,
-    "pieces": _is_hue_alone,
-    "blank": _is_blank,
+# The parts of each kind of claim: kinds of words, or the least and the greatest integer. `hue` is a colour other
+# than white, and `other` one that is not the part ahead of it either.
+PARTS = {
+    "never": ("hue",),
+    "thick": ("way", "colour", (2, 4)),
+    "narrow": ("way", "hue", (1, 4)),
+    "shut": ("way", "hue", "other", (1, 3)),
+    "fringe": ("hue", (1, 2)),
+    "keeps": ("hue",),
+    "true": (),
+    "holes": (),
+    "pieces": ("hue",),
+    "blank": ((-50, 50), (-50, 50), (1, 20), (1, 20)),
 }
+
+
+def is_part(part, thing, ahead):
+    """Whether the thing is such a part of a claim, behind those that stand ahead of it."""
+    if isinstance(part, tuple):
+        low, high = part
+        return is_within(thing, low, high)
+    if not is_word(thing):
+        return False
+    if part == "way":
+        return thing in WAYS
+    if part == "other":
+        return thing != WHITE and thing != ahead[-1]
+    return part == "colour" or thing != WHITE
 
 
 def is_claim(thing):
     claim = plain(thing)
-    if not isinstance(claim, tuple) or claim == () or not isinstance(claim[0], str) or claim[0] not in KINDS:
+    if not isinstance(claim, tuple) or claim == () or not isinstance(claim[0], str) or claim[0] not in PARTS:
         return False
-    judge = KINDS[claim[0]]
-    return judge(claim[1:])
+    parts = PARTS[claim[0]]
+    if len(claim) != len(parts) + 1:
+        return False
+    return all([is_part(part, claim[k + 1], claim[:k + 1]) for k, part in enumerate(parts)])
 
 
 def is_local(thing):

@@ -1,6 +1,6 @@
-"""What several modules share: kinds of things, tuples for lists, lots, and the order of finding."""
+"""What several modules share: kinds of things, tuples for lists, lots, lines, and the order of finding."""
 
-from strayplates.errors import TooMany
+from strayplates.errors import BadLine, TooMany
 
 
 def plain(thing):
@@ -57,11 +57,87 @@ def least_lots(serving):
     return tuple(least)
 
 
+def line_of(words):
+    """The line of these words; integers are told by their signs."""
+    return " ".join([str(word) for word in words])
+
+
+def _integer_of(word, low, high):
+    """The integer from low to high that the word tells, or None."""
+    signs = word[1:] if word.startswith("-") else word
+    if signs == "" or not all([sign in "0123456789" for sign in signs]):
+        return None
+    if signs[0] == "0" and word != "0":
+        return None
+    number = int(word)
+    return number if low <= number <= high else None
+
+
+class Lines:
+    """Lines that are read word by word, up to the first word that cannot stand where it stands."""
+
+    def __init__(self, lines):
+        self._lines = list(lines)
+        self._words = []
+        self._line = -1
+        self._word = 0
+
+    def first_word(self):
+        """The first word of the next line, which is not begun by this; None if it has none."""
+        ahead = self._lines[self._line + 1:self._line + 2]
+        return ahead[0].split(" ")[0] if ahead and isinstance(ahead[0], str) else None
+
+    def begin(self):
+        self._line += 1
+        self._word = 0
+        if self._line == len(self._lines) or not isinstance(self._lines[self._line], str):
+            raise BadLine(self._line, 0)
+        self._words = self._lines[self._line].split(" ")
+
+    def has_more(self):
+        """Whether the line has words that are not read so far."""
+        return self._word < len(self._words)
+
+    def take(self, accepts):
+        """The next word, one that is accepted."""
+        if not self.has_more() or not accepts(self._words[self._word]):
+            raise BadLine(self._line, self._word)
+        self._word += 1
+        return self._words[self._word - 1]
+
+    def integer(self, low, high):
+        return int(self.take(lambda word: _integer_of(word, low, high) is not None))
+
+    def some(self, accepts, least, most):
+        """All other words of the line, so many that are accepted."""
+        found = []
+        while len(found) < least or (len(found) < most and self.has_more()):
+            found.append(self.take(accepts))
+        self.close()
+        return tuple(found)
+
+    def head(self, words):
+        """Begins the next line, and returns its first word, which is one of these."""
+        self.begin()
+        return self.take(lambda word: word in words)
+
+    def close(self):
+        """Ends a line that has no further word."""
+        if self.has_more():
+            raise BadLine(self._line, self._word)
+
+    def end(self):
+        """Ends lines behind which there is no further one."""
+        if self._line + 1 < len(self._lines):
+            raise BadLine(self._line + 1, 0)
+
+
 class Finding:
     """The standings of a walk in the order of finding, up to the first step that breaks its claim.
 
     A walk has the standing `start`, and for each standing `moves`: triples of a step, what is told of
-    it, and the standing that follows, None if the step breaks the claim.
+    it, and the standing that follows, None if the step breaks the claim. With None as `most` there can
+    be any number of standings.
     """
 
     def __init__(self, walk, most):
@@ -86,8 +162,15 @@ class Finding:
 
     def told_steps(self):
         """The pairs of a step and what is told of it, up to the step that breaks the claim."""
+        return self._told_up_to(self.broken)
+
+    def steps_to(self, standing):
+        """The steps by which this standing was found first."""
+        return tuple([step for step, _ in self._told_up_to(self._ahead[standing])])
+
+    def _told_up_to(self, last):
         back = []
-        link = self.broken
+        link = last
         while link is not None:
             standing, step, told = link
             back.append((step, told))

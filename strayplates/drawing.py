@@ -2,7 +2,7 @@
 
 from strayplates.common import is_tuple, is_within, plain
 from strayplates.errors import BadDeed, BadStamp, Clash, TooMany
-from strayplates.picture import picture_of
+from strayplates.picture import inked_rows, picture_of
 from strayplates.words import WHITE, is_word
 
 
@@ -197,11 +197,4 @@ def lean_drawing(drawing):
 
 def plain_drawing(picture):
     """The drawing that draws the picture plainly, by rows of inked cells side by side."""
-    rows = []
-    for row, column, colour in picture:
-        last = rows[-1] if rows else None
-        if last is not None and last[0] == row and last[1] + len(last[2]) == column and len(last[2]) < 20:
-            rows[-1] = (row, last[1], (*last[2], colour))
-        else:
-            rows.append((row, column, (colour,)))
-    return Drawing((), [("row", row, column, colours) for row, column, colours in rows])
+    return Drawing((), [("row", row, column, colours) for row, column, colours in inked_rows(picture)])

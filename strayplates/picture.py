@@ -133,6 +133,18 @@ def white_runs(picture, way):
     return tuple(sorted(found))
 
 
+def inked_rows(picture):
+    """The largest rows of inked cells side by side, in parts of at most 20 cells: first cells and colours."""
+    rows = []
+    for row, column, colour in picture:
+        last = rows[-1] if rows else None
+        if last is not None and last[0] == row and last[1] + len(last[2]) == column and len(last[2]) < 20:
+            rows[-1] = (row, last[1], (*last[2], colour))
+        else:
+            rows.append((row, column, (colour,)))
+    return rows
+
+
 def _groups(links):
     """The keys of a dict of links, parted into lists of those that are linked, also by others."""
     met = {}

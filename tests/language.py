@@ -92,8 +92,13 @@ class Package:
         self.stored = {}
         self.generators = set()
         self.lambdas = []
+        self.setters = {method.name for tree in self.trees.values() for method in own_functions(tree)
+                        if self.is_setter(method)}
         for tree in self.trees.values():
             self.learn(tree)
+
+    def is_setter(self, method):
+        return any(isinstance(part, ast.Attribute) and part.attr == "setter" for part in method.decorator_list)
 
     def learn(self, tree):
         for cls in own_classes(tree):
@@ -108,6 +113,8 @@ class Package:
                 self.functions[node.name] = node
         for node in ast.walk(tree):
             if isinstance(node, ast.Attribute) and isinstance(node.ctx, ast.Store):
+                if node.attr in self.setters and ast.unparse(node.value) != "self":
+                    continue
                 cls = self.class_around(node)
                 self.stored.setdefault(node.attr, set()).add(cls.name if cls else None)
             if isinstance(node, ast.FunctionDef) and self.yields(node):
@@ -129,8 +136,8 @@ class Package:
                    for node in ast.walk(function))
 
     def is_property(self, method):
-        return any(isinstance(part, ast.Name) and part.id == "property" or
-                   isinstance(part, ast.Attribute) and part.attr == "setter" for part in method.decorator_list)
+        return self.is_setter(method) or any(
+            isinstance(part, ast.Name) and part.id == "property" for part in method.decorator_list)
 
     def complain(self, name, node, rule, what):
         line = node if isinstance(node, int) else getattr(node, "lineno", 0)
@@ -603,7 +610,8 @@ class Package:
 
     def check_pure(self):
         waiting = [method for word, found in self.methods.items() for method in found
-                   if word in OPERATORS and word != "__setitem__" or self.is_property(method)
+                   if word in OPERATORS and word != "__setitem__"
+                   or self.is_property(method) and not self.is_setter(method)
                    or word in ("__eq__", "__str__", "__repr__", "__len__")]
         met = []
         while waiting:
