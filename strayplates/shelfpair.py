@@ -1,7 +1,8 @@
 """Shelves that are alike: each stack has the same colour on both."""
 
-from strayplates.common import Finding, is_tuple, judge_closed
+from strayplates.common import Finding, is_tuple, plain
 from strayplates.errors import Unlike
+from strayplates.stacks import laid_over
 from strayplates.words import WHITE, is_word
 
 
@@ -11,22 +12,17 @@ class PairWalk:
     def __init__(self, first, second):
         if first.names != second.names:
             raise Unlike("names")
-        self.first = first
-        self.second = second
+        self._first = first
+        self._second = second
         self.start = (WHITE, WHITE)
 
-    def moves(self, pair):
-        if pair[0] != pair[1]:
-            # Only a table that is judged can have such a pair, and no pair that follows makes it right.
-            return [("", None, None)]
-        found = []
-        for name in self.first.names:
-            follow = (self.first.laid(pair[0], name), self.second.laid(pair[1], name))
-            found.append((name, None, follow if follow[0] == follow[1] else None))
-        return found
+    def follows(self, pair):
+        """The pairs to which the inks lead."""
+        return list(zip(laid_over(self._first, pair[0]), laid_over(self._second, pair[1])))
 
-    def has_form(self, row):
-        return is_tuple(row, 2, 2) and is_word(row[0]) and is_word(row[1])
+    def moves(self, pair):
+        return [(name, None, follow if follow[0] == follow[1] else None)
+                for name, follow in zip(self._first.names, self.follows(pair))]
 
 
 class ShelfPair:
@@ -47,5 +43,21 @@ class ShelfPair:
         return iter(self._rows)
 
 
+def _is_pair_of_colours(row):
+    return is_tuple(row, 2, 2) and is_word(row[0]) and is_word(row[1])
+
+
 def judge_shelves(first, second, table):
-    return judge_closed(PairWalk(first, second), table)
+    walk = PairWalk(first, second)
+    rows = plain(table)
+    if not isinstance(rows, tuple):
+        return -1
+    known = {row: True for row in rows if _is_pair_of_colours(row)}
+    if walk.start not in known:
+        return -1
+    for number, row in enumerate(rows):
+        if not _is_pair_of_colours(row) or row[0] != row[1]:
+            return number
+        if not all([follow in known for follow in walk.follows(row)]):
+            return number
+    return None
