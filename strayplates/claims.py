@@ -146,24 +146,33 @@ PLACES = {
 }
 
 
-def places(claim, page, picture):
+def _judged(claim):
     if not is_claim(claim):
         raise BadClaim(claim)
-    told = plain(claim)
+    return plain(claim)
+
+
+def _places_of(told, page, picture):
     if told[0] not in PLACES:
         return ()
     find = PLACES[told[0]]
     return tuple(sorted(set(find(told, page, picture))))
 
 
-def holds(claim, page, picture):
-    if not is_claim(claim):
-        raise BadClaim(claim)
-    if claim[0] == "holes":
+def _is_kept(told, page, picture):
+    if told[0] == "holes":
         return len(holes(picture)) == len(holes(page))
-    if claim[0] == "pieces":
-        return len(pieces(picture, claim[1])) == len(pieces(page, claim[1]))
-    return places(claim, page, picture) == ()
+    if told[0] == "pieces":
+        return len(pieces(picture, told[1])) == len(pieces(page, told[1]))
+    return _places_of(told, page, picture) == ()
+
+
+def places(claim, page, picture):
+    return _places_of(_judged(claim), page, picture)
+
+
+def holds(claim, page, picture):
+    return _is_kept(_judged(claim), page, picture)
 
 
 def judged_wish(wish):
@@ -178,8 +187,13 @@ def judged_wish(wish):
 
 
 def breach(wish, page, picture):
-    for number, claim in enumerate(judged_wish(wish)):
-        if not holds(claim, page, picture):
-            cells = places(claim, page, picture)
+    return first_breach(judged_wish(wish), page, picture)
+
+
+def first_breach(told, page, picture):
+    """The breach of a wish that has been judged, or None if it holds."""
+    for number, claim in enumerate(told):
+        if not _is_kept(claim, page, picture):
+            cells = _places_of(claim, page, picture)
             return number, (cells[0] if cells else None)
     return None

@@ -1,6 +1,6 @@
 """Traps: cells that are added to plates so that a wish holds at all lies."""
 
-from strayplates.claims import breach, judged_wish
+from strayplates.claims import first_breach, judged_wish
 from strayplates.common import is_ascending, is_number_of, is_tuple, is_within, lots, plain
 from strayplates.errors import BadLot, BadMenu, BadTrap, NoColour, NoUnit
 from strayplates.job import Job
@@ -54,7 +54,7 @@ class Trials:
         job = self.jobs[trap]
         picture = job.shown(self._lies[number])
         if picture.cells not in self._held:
-            self._held[picture.cells] = breach(self._wish, self._page, picture) is None
+            self._held[picture.cells] = first_breach(self._wish, self._page, picture) is None
         return self._held[picture.cells]
 
     def first_unserved(self, trap):
@@ -88,39 +88,52 @@ def _with_additions(job, trap):
     return Job(job.press, plates)
 
 
-def _can_meet(rows, low, many):
-    """Whether some lot of so many numbers, from low on, has one of each of the rows."""
-    left = sorted([(len(row), row) for row in [[k for k in row if k >= low] for row in rows]])
+def _apart(rows):
+    """As many of the rows as are found, the shortest ones first, of which no two have a number in common."""
+    met = {}
     apart = []
-    for size, row in left:
-        if size == 0:
-            return False
-        if not any([k in other for other in apart for k in row]):
+    for _, row in sorted([(len(row), row) for row in rows]):
+        if not any([k in met for k in row]):
             apart.append(row)
-    if len(apart) > many:
+            for k in row:
+                met[k] = True
+    return apart
+
+
+def _can_meet(rows, many):
+    """Whether some lot of so many numbers has one of each of the rows."""
+    apart = _apart(rows)
+    if len(apart) > many or () in apart:
         return False
-    if not left:
+    if len(apart) == len(rows):
         return True
-    return any([_can_meet([row for row in rows if k not in row], low, many - 1) for k in left[0][1]])
+    for k in apart[0]:
+        if _can_meet([row for row in rows if k not in row], many - 1):
+            return True
+    return False
 
 
 def _first_meeting(rows):
     """The first of the smallest lots that have one number of each of the rows; no row is empty."""
     # A row that has all numbers of another one is met by whatever meets that one.
     left = [row for row in rows if not any([len(other) < len(row) and _is_part(other, row) for other in rows])]
-    many = 0
-    while not _can_meet(left, 0, many):
+    many = len(_apart(left))
+    while not _can_meet(left, many):
         many += 1
     lot = ()
-    while left:
-        number = lot[-1] + 1 if lot else 0
-        further = [row for row in left if number not in row]
-        while not _can_meet(further, number + 1, many - len(lot) - 1):
-            number += 1
-            further = [row for row in left if number not in row]
-        lot = (*lot, number)
-        left = further
+    for number in sorted(set([k for row in left for k in row])):
+        # What comes behind this number is left to meet the rows that it does not.
+        further = [_above(row, number) for row in left if number not in row]
+        if len(lot) < many and _can_meet(further, many - len(lot) - 1):
+            lot = (*lot, number)
+            left = further
+        else:
+            left = [_above(row, number) for row in left]
     return lot
+
+
+def _above(row, number):
+    return tuple([k for k in row if k > number])
 
 
 def _is_part(row, other):

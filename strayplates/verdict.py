@@ -1,6 +1,6 @@
 """Verdicts on a job at all its lies."""
 
-from strayplates.claims import breach, judged_wish
+from strayplates.claims import first_breach, judged_wish
 
 
 class Verdict:
@@ -9,7 +9,7 @@ class Verdict:
         self.lie, self.claim, self.cell = None, None, None
         good = []
         for number, lie in enumerate(job.press.lies):
-            found = breach(told, page, job.shown(lie))
+            found = first_breach(told, page, job.shown(lie))
             if found is None:
                 good.append(number)
             elif self.lie is None:
