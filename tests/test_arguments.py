@@ -5,22 +5,38 @@ import unittest
 
 from strayplates.asking import read_told, want_told
 from strayplates.band import Band, tape_seen
+from strayplates.bench import Bench, tried
 from strayplates.book import Book
+from strayplates.bookpair import BookPair, judge_books
 from strayplates.cases import Cases, judge_cases
 from strayplates.claims import breach, holds, is_claim, places
 from strayplates.designverdict import DesignVerdict, judge_designs
+from strayplates.dockettext import read_docket, read_picture, read_plate, write_docket
 from strayplates.drawing import Drawing, hidden, lean_drawing
 from strayplates.errors import PlateError
 from strayplates.forms import forms, met
 from strayplates.job import Job
+from strayplates.looks import Looks
+from strayplates.orders import Orders
 from strayplates.pagebars import PageBars
+from strayplates.pagetext import read_page
+from strayplates.palette import Palette, ways
+from strayplates.passplans import PassPlans
 from strayplates.picture import Picture
 from strayplates.plan import Plan
 from strayplates.plate import Plate
 from strayplates.press import Press
+from strayplates.reach import Reach
 from strayplates.readers import Reader
+from strayplates.remedies import Remedies
+from strayplates.rulework import idle_rules, lean_book, least_pages, needless_rules
 from strayplates.shelf import Shelf
+from strayplates.shelfpair import ShelfPair, judge_shelves
+from strayplates.shelftext import read_book, read_press, read_shelf
+from strayplates.stacks import Stacks, judge_stacks
 from strayplates.tapeverdict import TapeVerdict, judge_tapes
+from strayplates.traps import Traps, judge_traps
+from strayplates.verdict import Verdict
 from strayplates.words import is_cell, is_palette, neighbours
 from tests.tools import SKY, SUN, Checks, listed, plain_book, two_press
 
@@ -67,7 +83,34 @@ class ArgumentsTest(unittest.TestCase, Checks):
             (judge_tapes, band, Book(), ["never", "red"], tapes),
             (Plan, MOTIFS, [["a", "b"]], ["a"], ["b"]), (plan.tape_of, ["a", "b"]), (plan.follows, [0, 1]),
             (plan.colour_of, [0, 1]), (plan.without, ["a", "b"]), (plan.__contains__, ["a", "b"]),
-            (judge_designs, band, Book(), plan, ["never", "red"], designs))
+            (judge_designs, band, Book(), plan, ["never", "red"], designs), *self.later_calls())
+
+    def later_calls(self):
+        press, book, page = self.press, self.book, self.page
+        job, shelf, wish, menu = book.made(press, page), press.shelf, [SHUT, ["true"]], [[0, 0, 1], [1, 0, 0]]
+        rules = [["blue", "left", "red", ["sky", "sun"]]]
+        docket = list(write_docket(job, page, wish))
+        stacks, shelves = listed(Stacks(shelf).table), listed(ShelfPair(shelf, shelf).table)
+        traps = Traps(job, page, wish, menu)
+        return (
+            (read_page, ["page", "box 0 0 1 1 red", "end"]), (read_docket, docket), (read_shelf, docket[:5]),
+            (read_press, docket[:10]), (read_book, ["book", "rule red sun", "end"]),
+            (read_picture, ["picture", "row 0 0 red", "end"]), (read_plate, ["plate", "cells 0 1", "end"]),
+            (write_docket, job, page, wish), (judge_stacks, shelf, stacks), (judge_shelves, shelf, shelf, shelves),
+            (ways, shelf, [1, 0], "yellow"), (Palette, shelf, ["green", "blue"]), (Verdict, job, page, wish),
+            (Traps, job, page, wish, menu), (traps.served, [0, 1]), (traps.done, [[0, 0, 1]]),
+            (judge_traps, job, page, wish, menu, listed(traps.table)),
+            (Looks, job, [[0, 0], [0, 1]], [0, 1]), (BookPair, book, Book(), PALETTE),
+            (judge_books, book, book, PALETTE, listed(BookPair(book, book, PALETTE).table)),
+            (least_pages, book, PALETTE), (idle_rules, book, PALETTE), (needless_rules, book, PALETTE),
+            (lean_book, book, PALETTE), (Remedies, press, book, PALETTE, SHUT, rules),
+            (Remedies(press, book, PALETTE, SHUT, rules).mended, [0]),
+            (PassPlans, shelf, ["sun", "sky"], [0, 0, 0, 1], 2, book, PALETTE, SHUT),
+            (PassPlans(shelf, ["sun", "sky"], [0, 0, 0, 1], 2, book, PALETTE, SHUT).press_of, [0, 1]),
+            (Orders, press, book, PALETTE, SHUT), (Orders(press, book, PALETTE, SHUT).press_of, [1, 0]),
+            (Reach, book, "sun", PALETTE), (Reach(book, "sun", PALETTE).__contains__, [0, 0]),
+            (lambda *told: Bench(press, book, page).recolour(*told), [0, 0, "blue"], [3, 3, "red"]),
+            (tried, Bench(press, book, page), [[0, 0, "blue"]], [[1, 1, "red"], [0, 0, "red"]]))
 
     def test_lists_stay_as_they_are(self):
         for call, *told in self.calls():

@@ -32,6 +32,31 @@ INTERFACE = {
     "tapeverdict": "TapeVerdict(band,book,claim): __bool__ __len__ __iter__; judge_tapes(band,book,claim,table)",
     "plan": """Plan(motifs,joints=(),first=(),last=()): __len__ __iter__ __eq__ __contains__ tape_of(design) live
         follows(place) colour_of(place) designs(most) without(*joints)""",
+    "pagetext": "write_page(drawing) read_page(lines)",
+    "shelftext": """write_shelf(shelf) write_press(press) write_book(book) read_shelf(lines) read_press(lines)
+        read_book(lines)""",
+    "dockettext": """write_picture(picture) write_plate(plate) write_docket(job,page,wish) read_picture(lines)
+        read_plate(lines) read_docket(lines)""",
+    "stacks": "Stacks(shelf): __contains__ __len__ __iter__ stack_of(colour); judge_stacks(shelf,table)",
+    "shelfpair": "ShelfPair(first,second): __bool__ __len__ __iter__; judge_shelves(first,second,table)",
+    "swaps": "exchange(shelf,first,second) steady(shelf,name) hides(shelf,upper,lower)",
+    "palette": "ways(shelf,order,colour); Palette(shelf,wishes): __bool__ __len__ __iter__",
+    "late": "LateMix(press,name,first,second): __bool__ mixed(job)",
+    "verdict": "Verdict(job,page,wish): __bool__",
+    "jobpair": "JobPair(first,second): __bool__; swapped(job,number)",
+    "traps": """spread(job,page,number,colour); Traps(job,page,wish,menu): __bool__ __len__ __iter__ served(lies) done(trap);
+        judge_traps(job,page,wish,menu,table)""",
+    "looks": "Looks(job,cells,aims=None): __bool__ __len__ __iter__ sight(number)",
+    "bookpair": """BookPair(first,second,colours): __bool__ __len__ __iter__;
+        judge_books(first,second,colours,table)""",
+    "rulework": """least_pages(book,colours) idle_rules(book,colours) needless_rules(book,colours)
+        lean_book(book,colours)""",
+    "remedies": """Remedies(press,book,colours,claim,rules): __bool__ __len__ __iter__ __contains__ mended(lot)""",
+    "passplans": "PassPlans(shelf,names,box,most,book,colours,claim): __bool__ __len__ __iter__ press_of(plan)",
+    "orders": "Orders(press,book,colours,claim): __bool__ __len__ __iter__ press_of(order)",
+    "reach": "Reach(book,name,colours): __contains__ __len__ __iter__",
+    "bench": """Bench(press,book,page): page result history recolour(*changes) back(many=1) __enter__ __exit__;
+        restart(bench,page) tried(bench,*rows)""",
     "designverdict": """DesignVerdict(band,book,plan,claim): __bool__ __len__ __iter__;
         judge_designs(band,book,plan,claim,table)""",
 }

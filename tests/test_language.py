@@ -61,6 +61,8 @@ BAD = (
     ("L5", "class A:\n    def __mul__(self, other):\n        other.rows.append(1)\n        return other\n"),
     ("L5", "class A:\n    @property\n    def deep(self):\n        return spoil([])\n\n\n"
            "def spoil(rows):\n    rows.append(1)\n    return rows\n"),
+    ("L5", "class A:\n    @property\n    def deep(self):\n        self.n = 1\n        return 2\n\n"
+           "    @deep.setter\n    def deep(self, value):\n        self.n = value\n"),
     ("L6", "def f():\n    global LIMIT\n    return 1\n"), ("L6", "async def f():\n    return 1\n"),
     ("L6", "def f(rows):\n    return sum(row for row in rows)\n"), ("L6", "def f(n):\n    return f'{n}'\n"),
     ("L7", "def f(n):\n    return n / 2\n"), ("L7", "def f():\n    return 1.5\n"),
@@ -98,7 +100,7 @@ BAD = (
 class LanguageTest(unittest.TestCase):
     def test_the_package(self):
         files = {path.name: path.read_text(encoding="utf-8") for path in FOLDER.iterdir() if path.is_file()}
-        self.assertGreater(len(files), 19)
+        self.assertGreater(len(files), 38)
         self.assertEqual(check(files), [])
 
     def test_the_folder_has_nothing_else(self):
@@ -107,6 +109,12 @@ class LanguageTest(unittest.TestCase):
 
     def test_a_good_file(self):
         self.assertEqual(check({"__init__.py": "", "box.py": GOOD, "other.py": OTHER}), [])
+
+    def test_setters(self):
+        setter = "\n\nclass A:\n    def __init__(self):\n        self.n = 1\n\n    @property\n    def deep(self):\n" \
+                 "        return self.n\n\n    @deep.setter\n    def deep(self, value):\n        self.n = value\n\n\n" \
+                 "def deepened(box):\n    box.deep = 3\n    return box\n"
+        self.assertEqual(check({"__init__.py": "", "box.py": GOOD + setter, "other.py": OTHER}), [])
 
     def test_bad_files(self):
         for rule, text in BAD:
