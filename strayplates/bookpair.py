@@ -51,7 +51,7 @@ def least_page(pages):
 def are_alike(first, second, palette):
     """Whether two books print the same at each cell of each page of the palette."""
     for _, row in reading_tree((first, second), palette):
-        if row[0] == "counts" and _told_row(first, second, row)[0] == "apart":
+        if _told_row(first, second, row)[0] == "apart":
             return False
     return True
 

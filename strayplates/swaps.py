@@ -6,9 +6,6 @@ from strayplates.stacks import Stacks
 
 def _first_unlike(shelf, one, other):
     """The least stack of the first seen colour behind which two rows of inks show unlike colours, or None."""
-    for name in (*one, *other):
-        if name not in shelf:
-            raise NoInk(name)
     stacks = Stacks(shelf)
     for colour, _ in stacks.table:
         stack = stacks.stack_of(colour)

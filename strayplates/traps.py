@@ -103,7 +103,7 @@ def _apart(rows):
 def _can_meet(rows, many):
     """Whether some lot of so many numbers has one of each of the rows."""
     apart = _apart(rows)
-    if len(apart) > many or () in apart:
+    if len(apart) > many:
         return False
     if len(apart) == len(rows):
         return True
@@ -124,7 +124,7 @@ def _first_meeting(rows):
     for number in sorted(set([k for row in left for k in row])):
         # What comes behind this number is left to meet the rows that it does not.
         further = [_above(row, number) for row in left if number not in row]
-        if len(lot) < many and _can_meet(further, many - len(lot) - 1):
+        if _can_meet(further, many - len(lot) - 1):
             lot = (*lot, number)
             left = further
         else:

@@ -79,7 +79,7 @@ class BenchTest(unittest.TestCase, Checks):
     def test_wrong_changes(self):
         self.bench.recolour((3, 3, "red"))
         kept = self.state(self.bench)
-        for thing in ODD + ((0, 0), (0, 0, "Red"), (0, 0, 3), (51, 0, "red"), (0, -51, "red"), (True, 0, "red"), (0, False, "red"),
+        for thing in ODD + ((0, 0), (0, 0, "Red"), (0, 0, 3), (51, 0, "red"), (0, -51, "red"), (-51, 0, "red"), (0, 51, "red"), (True, 0, "red"), (0, False, "red"),
                             (0, 0, "red", 0), ("0", 0, "red"), (0, 0, ""), (0, 0, None)):
             self.assert_error(BadChange, {"number": 0}, self.bench.recolour, thing)
             self.assert_error(BadChange, {"number": 1}, self.bench.recolour, (0, 0, "blue"), thing, None)

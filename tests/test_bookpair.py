@@ -173,6 +173,18 @@ class JudgeBooksTest(unittest.TestCase, Checks):
         rows[2], rows[6] = ("ask", (0, -1), (3, 4, 9)), ("ask", (0, -1), (7, 8, 5))
         self.assertEqual(self.judge(rows), -1)
 
+    def test_numbers_that_are_no_later_rows(self):
+        book, leaves = plain_book(), (("same", ()), ("same", ("sky",)))
+        for number in (-2, -1, 0, 3, 4, 10 ** 39):
+            rows = (("ask", (0, 0), (1, 2, number)), *leaves)
+            self.assertEqual(judge_books(book, book, PALETTE, rows), 0)
+        # A row that tells only itself is not told by one ahead of it.
+        for follows in ((3, 4, 5), (4, 5, 3)):
+            rows = (("ask", (0, 0), (1, 2, 99)), *leaves, ("ask", (1, 1), follows), ("same", ()), ("same", ()))
+            self.assertEqual(judge_books(book, book, PALETTE, rows), -1)
+        self.assertEqual(judge_books(book, book, PALETTE, (("same", ()), ("same", ()))), -1)
+        self.assertEqual(judge_books(book, book, PALETTE, (("ask", (0, 0), (2, 3, 4)), *[("same", ())] * 4)), -1)
+
     def test_rows_that_ask_without_the_form(self):
         for at in (2, 6):
             _, cell, follows = self.table[at]

@@ -113,6 +113,8 @@ class PictureAndPlateTest(unittest.TestCase, Checks, LineChecks):
         self.assert_bad(read_plate, 1, 103, "plate", row + " 0", "end")
 
     def test_what_lies_beyond_the_bounds_is_written(self):
+        self.assertEqual(read_picture(("picture", "row -50 -50 red", "end")), Picture(((-50, -50, "red"),)))
+        self.assert_error(BadPlate, {"number": 1}, read_plate, ("plate", "cells 0 0 -50", "end"))
         self.assertEqual(write_picture(Picture(((50, 50, "red"),)).moved(1, 1)), ("picture", "row 51 51 red", "end"))
         self.assertEqual(write_plate(Plate(((50, 50),)).moved(1, 1)), ("plate", "cells 51 51", "end"))
 

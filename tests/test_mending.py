@@ -172,6 +172,9 @@ class PassPlansTest(unittest.TestCase, Checks):
         for thing in (None, 3, "sun", (), ("sun", "sun"), ("sun", "moon"), ("sun", None), (("sun",),), {"sun": 1}, ["sun", True],
                       ("sun", "sky", "rose", "ash"), ("sun", "sky", "rose", "sun")):
             self.assert_error(BadPress, {"word": "units"}, *call(thing, None, None, None, None, None))
+        five = Shelf([(name, "red", ()) for name in "abcde"])
+        self.assert_error(BadPress, {"word": "units"}, PassPlans, five, tuple("abcde"), None, None, None, None, None)
+        self.assert_error(BadPress, {"word": "boxes"}, PassPlans, five, tuple("abcd"), None, None, None, None, None)
         for thing in (None, 3, (), (0, 0, 0), (0, 0, 0, 4), (0, 0, 0, -1), (0, 0, 0, True), (0,) * 5, "0000", {}):
             self.assert_error(BadPress, {"word": "boxes"}, *call(("sun",), thing, None, None, None, None))
         for thing in (None, 0, 5, -1, True, "2", (2,), 2.0):

@@ -128,6 +128,8 @@ class JudgeStacksTest(unittest.TestCase, Checks):
         self.assertEqual(self.judge((self.table[0], *self.table)), 1)
         self.assertEqual(self.judge((*self.table, ("tan", ("yellow", "green")))), 4)
         self.assertEqual(self.judge((self.table[0], None, *self.table[1:])), 1)
+        for thing in (1, True, "Tan", None, (), ("tan",), "abcdefghi"):
+            self.assertEqual(self.judge((*self.table, (thing, ("yellow", "blue")))), 4)
 
     def test_random_tables(self):
         chance = rng(67)

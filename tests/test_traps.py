@@ -134,7 +134,7 @@ class TrapsTest(unittest.TestCase, Checks):
             nine = tuple([(0, 1, k) for k in range(9)])
             for thing in (None, 3, "ab", {}, nine, (None,) * 9):
                 self.assert_error(BadMenu, {"number": -1}, call, self.job, PAGE, (SHUT,), thing, *told)
-            for thing in (None, 3, "abc", (), (0, 1), (0, 1, 2, 3), (2, 0, 0), (-1, 0, 0), (True, 1, 0), (0, 51, 0), (0, 2, -51),
+            for thing in (None, 3, "abc", (), (0, 1), (0, 1, 2, 3), (2, 0, 0), (-1, 0, 0), (True, 1, 0), (0, 51, 0), (0, 2, -51), (0, 2, 51), (0, -51, 2),
                           (0, 2, True), (0, 1, 1.0), (0, 0, 0), (1, 0, 1), (0, 1, 0), (0, 0, 5), ("0", 2, 0), (None, 2, 0)):
                 self.assert_error(BadMenu, {"number": 1}, call, self.job, PAGE, (SHUT,), ((0, 1, 0), thing, None), *told)
         traps = self.traps([[0, -50, 50], [0, 50, -50], *[[1, 1, k] for k in range(6)]])
