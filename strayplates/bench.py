@@ -106,7 +106,7 @@ class Bench:
         """Takes over other colours, and the history behind the steps that are done or undone by this."""
         inks = _copied(self._inks)
         found = []
-        for cell in _touched([(row, column) for row, column, _, _ in done]):
+        for cell in _touched([step[:2] for step in done]):
             inks[cell] = self._inks_at(colours, cell)
             elder = self._inks.get(cell, ())
             for number, name in enumerate(self.press.names):

@@ -383,6 +383,8 @@ class Package:
             self.complain(name, function, "L5", "the parameters of an operator")
         if word == "__iter__" and (len(rows) != 1 or not re.fullmatch(r"return iter\(self(\.\w+){1,2}\)", last)):
             self.complain(name, function, "L5", "the form of __iter__")
+        if word == "__exit__":
+            self.check_exit(name, rows)
         if word == "__len__" and (len(rows) != 1 or not re.fullmatch(r"return len\(self\.\w+\)", last)):
             self.complain(name, function, "L28", "the form of __len__")
         if word == "__bool__" and not re.match(r"return (not |bool\(|isinstance|any\(|all\(|.* is |.* in )", last):
@@ -390,6 +392,13 @@ class Package:
         for node in ast.walk(function):
             if isinstance(node, ast.Return) and word == "__init__" and node.value is not None:
                 self.complain(name, node, "L28", "__init__ returns something")
+
+    def check_exit(self, name, rows):
+        """Of what L6 allows in `__exit__`, only names kept of attributes, and attributes assigned plainly."""
+        for row in rows:
+            plain = isinstance(row, ast.Assign) and isinstance(row.value, (ast.Name, ast.Attribute, ast.Constant))
+            if not plain or not all(isinstance(target, (ast.Name, ast.Attribute)) for target in row.targets):
+                self.complain(name, row, "L6", "in __exit__")
 
     # Nodes
 

@@ -63,6 +63,7 @@ BAD = (
            "def spoil(rows):\n    rows.append(1)\n    return rows\n"),
     ("L5", "class A:\n    @property\n    def deep(self):\n        self.n = 1\n        return 2\n\n"
            "    @deep.setter\n    def deep(self, value):\n        self.n = value\n"),
+    ("L6", "class A:\n    def __exit__(self, kind, value, trace):\n        self.many = self.rows.pop()\n"),
     ("L6", "def f():\n    global LIMIT\n    return 1\n"), ("L6", "async def f():\n    return 1\n"),
     ("L6", "def f(rows):\n    return sum(row for row in rows)\n"), ("L6", "def f(n):\n    return f'{n}'\n"),
     ("L7", "def f(n):\n    return n / 2\n"), ("L7", "def f():\n    return 1.5\n"),
