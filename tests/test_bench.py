@@ -277,6 +277,8 @@ class TriedTest(unittest.TestCase, Checks):
         told = tried(self.bench, *rows)
         self.assertEqual([len(job.plates[1]) for job in told], [max(k, 2) for k in range(1, 21)])
         self.assertEqual(self.bench.history, ((1, 1, "white", "red"),))
+        # No error is named for more rows.
+        self.assertEqual(tried(self.bench, *rows, ((0, 0, "white"),))[:20], told)
 
     def test_errors(self):
         kept = self.bench.page, self.bench.history
