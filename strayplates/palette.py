@@ -43,7 +43,7 @@ def _longer(shelf, level):
                 further = {colour: True for colour in shown}
                 for colour in shown:
                     further[shelf.laid(colour, name)] = True
-                longer[(*order, number)] = further
+                longer[order + (number,)] = further
     return longer
 
 

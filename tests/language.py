@@ -432,6 +432,8 @@ class Package:
             called = node.exc.func if isinstance(node.exc, ast.Call) else None
             if not isinstance(called, ast.Name) or called.id not in self.classes and called.id not in BASES:
                 self.complain(name, node, "L19", "it does not create its error")
+        if isinstance(node, ast.Subscript):
+            self.check_index(name, node)
         if isinstance(node, ast.Slice) and node.step is not None and ast.unparse(node.step) == "0":
             self.complain(name, node, "L7", "a step of 0")
         if isinstance(node, ast.Lambda) and any(
@@ -440,6 +442,13 @@ class Package:
         if isinstance(node, ast.Starred) and isinstance(node.above, ast.Call):
             if not isinstance(node.value, (ast.Name, ast.Attribute)):
                 self.complain(name, node, "L7", "behind a star in a call")
+
+    def check_index(self, name, node):
+        """No star stands within the brackets of a subscript, at any depth."""
+        for part in ast.walk(node.slice):
+            doubled = isinstance(part, ast.keyword) and part.arg is None or isinstance(part, ast.Dict) and None in part.keys
+            if isinstance(part, ast.Starred) or doubled:
+                self.complain(name, part if hasattr(part, "lineno") else node, "L7", "a star in an index")
 
     def check_constant(self, name, node):
         if isinstance(node.value, (float, complex)) or node.value is ...:

@@ -127,6 +127,22 @@ class LanguageTest(unittest.TestCase):
                 found = check({"__init__.py": "", "box.py": whole, "other.py": OTHER})
                 self.assertIn(rule, [complaint[2] for complaint in found])
 
+    def test_stars_in_an_index(self):
+        for told in ("rows[(*rest, 1)]", "rows[*rest, 1]", "rows[[*rest]]", "rows[0][(*rest,)]", "rows[(1, (2, *rest))]",
+                     "rows[told(*rest)]", "rows[rest[(*rest,)]]", "rows[[(k, *rest) for k in rest][0]]", "rows[1:[*rest][0]]",
+                     "rows[(lambda a: (*a, 1))(rest)]", "rows[told(**rest)]", "rows[{**rest}]",
+                     "rows[(1 if rest else (*rest, 2))]", "rows[-told([*rest])]"):
+            for row in (f"return {told}", f"{told} = 1", f"del {told}", f"{told} += 1", f"rows.append([{told}])",
+                        f"for k in rest:\n        rows = [{told} for k in rest]"):
+                text = f"def f(rows, rest):\n    {row}\n"
+                number = 1 + text[:text.index(told)].count("\n")
+                found = check({"__init__.py": "", "late.py": text})
+                with self.subTest(text=text):
+                    self.assertIn(("late.py", number, "L7", "a star in an index"), found)
+        for told in ("rows[rest + (1,)]", "(*rest, rows[0])", "[*rows[1:], 1]", "told(*rest)[0]", "[*rest][0]"):
+            text = f"def f(rows, rest):\n    return {told}\n"
+            self.assertNotIn("a star in an index", [what for _, _, _, what in check({"__init__.py": "", "late.py": text})])
+
     def test_bad_folders(self):
         for rule, files in (("L14", {"box.py": ""}), ("L1", {"__init__.py": "", "Box.py": ""}),
                             ("L14", {"__init__.py": "", "sum.py": ""}), ("L14", {"__init__.py": "", "test_a.py": ""}),
