@@ -6,12 +6,15 @@ from strayplates.errors import BadBars, BadLies, BadPace, BadTape
 from strayplates.words import WHITE, judged_palette
 
 
-def _judged_bars(bars, palette):
+def judged_nexts(bars, palette, most, known):
+    """The bars, (colour, next), as a tuple of different pairs of colours of the palette, none of the known ones."""
     told = plain(bars)
-    if not is_tuple(told, 0, 8):
+    if not is_tuple(told, 0, most):
         raise BadBars(-1)
     for number, bar in enumerate(told):
-        if not is_tuple(bar, 2, 2) or bar[0] not in palette or bar[1] not in palette or bar in told[:number]:
+        if not is_tuple(bar, 2, 2) or bar[0] not in palette or bar[1] not in palette:
+            raise BadBars(number)
+        if bar in told[:number] or bar in known:
             raise BadBars(number)
     return told
 
@@ -35,7 +38,7 @@ class Band:
         if not is_within(pace, 0, 1):
             raise BadPace(pace)
         self.pace = pace
-        self.bars = _judged_bars(bars, self.colours)
+        self.bars = judged_nexts(bars, self.colours, 8, ())
         self.left = max([0, *[left for _, _, left, _ in press.boxes]])
         self.right = max([0, *[right for _, _, _, right in press.boxes]])
         self.depth = self.left + self.right + 2

@@ -132,17 +132,28 @@ class Lines:
             raise BadLine(self._line + 1, 0)
 
 
+class Walk:
+    """What can be gone over in the order of finding.
+
+    A walk has the standing `start`, and for each standing `moves`: triples of a step, what is told of
+    it, and the standing that follows, None if the step breaks what is claimed.
+    """
+
+    def fails(self, standing):
+        """Whether what is claimed is broken when this standing is found."""
+        return False
+
+
 class Finding:
     """The standings of a walk in the order of finding, up to the first step that breaks its claim.
 
-    A walk has the standing `start`, and for each standing `moves`: triples of a step, what is told of
-    it, and the standing that follows, None if the step breaks the claim. With None as `most` there can
-    be any number of standings.
+    With None as `most` there can be any number of standings; `word` tells what there are too many of.
     """
 
-    def __init__(self, walk, most):
+    def __init__(self, walk, most, word="standing"):
         self.standings = [walk.start]
         self.broken = None
+        self._word = word
         self._ahead = {walk.start: None}
         at = 0
         while self.broken is None and at < len(self.standings):
@@ -156,9 +167,12 @@ class Finding:
                 return
             if follow not in self._ahead:
                 if len(self.standings) == most:
-                    raise TooMany("standing")
+                    raise TooMany(self._word)
                 self._ahead[follow] = (standing, step, told)
                 self.standings.append(follow)
+                if walk.fails(follow):
+                    self.broken = (standing, step, told)
+                    return
 
     def told_steps(self):
         """The pairs of a step and what is told of it, up to the step that breaks the claim."""
@@ -178,17 +192,20 @@ class Finding:
         return back[::-1]
 
 
-def judge_closed(walk, table):
-    """None if the table of standings is closed, -1 or the number of the first row that is not right."""
+def judge_closed(walk, table, barred=None):
+    """None if the table of standings is closed, -1 or the number of the first row that is not right.
+
+    As a whole the table fails if the start of the walk is not in it, or if the barred standing is.
+    """
     rows = plain(table)
     if not isinstance(rows, tuple):
         return -1
     formed = [walk.has_form(row) for row in rows]
     known = {row: True for row, fit in zip(rows, formed) if fit}
-    if walk.start not in known:
+    if walk.start not in known or barred in known:
         return -1
     for number, row in enumerate(rows):
-        if not formed[number] or not _is_closed(walk, row, known):
+        if not formed[number] or walk.fails(row) or not _is_closed(walk, row, known):
             return number
     return None
 

@@ -1,13 +1,12 @@
 """Verdicts on all designs of a plan: whether a row claim holds on a band, however the plates wander."""
 
-from strayplates.common import Finding, is_tuple, is_within, judge_closed
+from strayplates.common import Finding, Walk, is_tuple, is_within, judge_closed
 from strayplates.errors import Unlike
 from strayplates.plan import BEGINNING
 from strayplates.readers import Reader
-from strayplates.words import is_cell
 
 
-class DesignWalk:
+class DesignWalk(Walk):
     """The standings of a band, a book, a plan and a claim, and the steps between them."""
 
     def __init__(self, band, book, plan, claim):
@@ -38,7 +37,7 @@ class DesignWalk:
         if not is_tuple(row, 4, 4):
             return False
         place, behind, lies, state = row
-        if not is_cell(place) or not self.plan.is_place(place) or not self.band.is_behind(behind):
+        if not self.plan.is_place(place) or not self.band.is_behind(behind):
             return False
         if lies is not None and not self.band.is_lies(lies):
             return False
@@ -50,10 +49,9 @@ class DesignVerdict:
         finding = Finding(DesignWalk(band, book, plan, claim), 2000)
         steps = finding.told_steps()
         kept = finding.broken is None
-        places = [place for (place, _), _ in steps]
         self.table = tuple(finding.standings) if kept else None
         self.story = None if kept else tuple([step for step, _ in steps])
-        self.begun = None if kept else tuple([plan.motifs[motif][0] for motif, known in places if known == 1])
+        self.begun = None if kept else plan.names_begun([place for (place, _), _ in steps])
         self.tape = None if kept else tuple([colour for _, colour in steps])
         self._rows = tuple(finding.standings) if kept else ()
 

@@ -16,6 +16,12 @@ def judged_looks(cells, most):
     return told
 
 
+def sights_of(job, cells):
+    """For each lie in order, the tuple of the colours that the job shows there at these cells."""
+    pictures = [job.shown(lie) for lie in job.press.lies]
+    return [tuple([picture[cell] for cell in cells]) for picture in pictures]
+
+
 def _judged_aims(aims, many):
     """The aim of each of so many lies; without aims, each lie has its own."""
     if aims is None:
@@ -43,8 +49,7 @@ class Looks:
     def __init__(self, job, cells, aims=None):
         told = judged_looks(cells, 8)
         goals = _judged_aims(aims, len(job.press.lies))
-        pictures = [job.shown(lie) for lie in job.press.lies]
-        self._sights = [tuple([picture[cell] for cell in told]) for picture in pictures]
+        self._sights = sights_of(job, told)
         self.lot = None
         rows = []
         for lot in lots(len(told)):

@@ -2,7 +2,7 @@
 
 from strayplates.common import is_ascending, is_tuple, plain
 from strayplates.errors import BadDesign, BadPlan
-from strayplates.words import WHITE, is_word
+from strayplates.words import WHITE, is_cell, is_word
 
 BEGINNING = (-1, 0)
 END = (-2, 0)
@@ -98,9 +98,19 @@ class Plan:
         return found
 
     def is_place(self, thing):
+        if not is_cell(thing):
+            return False
         if thing in (BEGINNING, END):
             return True
         return 0 <= thing[0] < len(self.motifs) and 1 <= thing[1] <= len(self.motifs[thing[0]][1])
+
+    def names_begun(self, places):
+        """The names of the motifs that are begun in a row of places, in order."""
+        return tuple([self.motifs[motif][0] for motif, known in places if known == 1])
+
+    def can_end(self, place):
+        """Whether a design can end behind this place."""
+        return END in self.follows(place)
 
     def follows(self, place):
         """The next places, in order."""

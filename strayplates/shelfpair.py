@@ -1,12 +1,12 @@
 """Shelves that are alike: each stack has the same colour on both."""
 
-from strayplates.common import Finding, is_tuple, plain
+from strayplates.common import Finding, Walk, is_tuple, plain
 from strayplates.errors import Unlike
 from strayplates.stacks import laid_over
 from strayplates.words import WHITE, is_word
 
 
-class PairWalk:
+class PairWalk(Walk):
     """The pairs of colours that one stack has on the one and on the other shelf, up to the first unlike ones."""
 
     def __init__(self, first, second):

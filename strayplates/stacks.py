@@ -1,11 +1,11 @@
 """The seen colours of a shelf, with the least stack of each."""
 
-from strayplates.common import Finding, is_tuple, plain
+from strayplates.common import Finding, Walk, is_tuple, plain
 from strayplates.errors import NoColour
 from strayplates.words import WHITE, is_word
 
 
-class StackWalk:
+class StackWalk(Walk):
     """The seen colours of a shelf, and what is seen when inks are laid over them."""
 
     def __init__(self, shelf):

@@ -1,10 +1,10 @@
 """Verdicts on all tapes of a band: whether a row claim holds, however the plates wander."""
 
-from strayplates.common import Finding, is_tuple, is_within, judge_closed
+from strayplates.common import Finding, Walk, is_tuple, is_within, judge_closed
 from strayplates.readers import Reader
 
 
-class TapeWalk:
+class TapeWalk(Walk):
     """The standings of a band, a book and a claim, and the steps between them."""
 
     def __init__(self, band, book, claim):

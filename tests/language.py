@@ -88,14 +88,16 @@ class Package:
                     child.above = node
         self.classes = {}
         self.functions = {}
+        self.functions_of = {}
         self.methods = {}
         self.stored = {}
         self.generators = set()
         self.lambdas = []
         self.setters = {method.name for tree in self.trees.values() for method in own_functions(tree)
                         if self.is_setter(method)}
-        for tree in self.trees.values():
+        for name, tree in self.trees.items():
             self.learn(tree)
+            self.functions_of[name] = {node.name: node for node in tree.body if isinstance(node, ast.FunctionDef)}
 
     def is_setter(self, method):
         return any(isinstance(part, ast.Attribute) and part.attr == "setter" for part in method.decorator_list)
@@ -539,8 +541,12 @@ class Package:
         if word == "isinstance" and not isinstance(node.args[1], (ast.Name, ast.Tuple)):
             self.complain(name, node, "L22", "what isinstance asks")
 
+    def function_called(self, name, word):
+        """The function of this name: that of the file itself, if it has one."""
+        return self.functions_of[name].get(word) or self.functions.get(word)
+
     def check_own_call(self, name, node, word):
-        function = self.functions.get(word)
+        function = self.function_called(name, word)
         if function is None:
             inits = [part for part in self.classes[word].body if getattr(part, "name", "") == "__init__"]
             if not inits:
@@ -645,7 +651,7 @@ class Package:
     def called_by(self, node):
         if isinstance(node.func, ast.Name):
             if node.func.id in self.functions:
-                return [self.functions[node.func.id]]
+                return [self.function_called(self.file_of(node), node.func.id)]
             if node.func.id in self.classes:
                 return [part for part in self.classes[node.func.id].body if getattr(part, "name", "") == "__init__"]
             return []

@@ -10,11 +10,13 @@ from strayplates.book import Book
 from strayplates.bookpair import BookPair, judge_books
 from strayplates.cases import Cases, judge_cases
 from strayplates.claims import breach, holds, is_claim, places
+from strayplates.course import Course
 from strayplates.designverdict import DesignVerdict, judge_designs
 from strayplates.dockettext import read_docket, read_picture, read_plate, write_docket
 from strayplates.drawing import Drawing, hidden, lean_drawing
 from strayplates.errors import PlateError
 from strayplates.forms import forms, met
+from strayplates.hand import Hand, turned_lie
 from strayplates.job import Job
 from strayplates.looks import Looks
 from strayplates.orders import Orders
@@ -22,6 +24,8 @@ from strayplates.pagebars import PageBars
 from strayplates.pagetext import read_page
 from strayplates.palette import Palette, ways
 from strayplates.passplans import PassPlans
+from strayplates.patch import Patch
+from strayplates.patchpair import PatchPair, judge_patches
 from strayplates.picture import Picture
 from strayplates.plan import Plan
 from strayplates.plate import Plate
@@ -30,13 +34,18 @@ from strayplates.reach import Reach
 from strayplates.readers import Reader
 from strayplates.remedies import Remedies
 from strayplates.rulework import idle_rules, lean_book, least_pages, needless_rules
+from strayplates.runverdict import RunVerdict, judge_run, waste
 from strayplates.shelf import Shelf
 from strayplates.shelfpair import ShelfPair, judge_shelves
 from strayplates.shelftext import read_book, read_press, read_shelf
 from strayplates.stacks import Stacks, judge_stacks
+from strayplates.tapebars import TapeBars
+from strayplates.tapepair import TapePair, judge_tape_pair
 from strayplates.tapeverdict import TapeVerdict, judge_tapes
+from strayplates.toldback import ToldBack, judge_told_back
 from strayplates.traps import Traps, judge_traps
 from strayplates.verdict import Verdict
+from strayplates.within import Within, judge_within
 from strayplates.words import is_cell, is_palette, neighbours
 from tests.tools import SKY, SUN, Checks, listed, plain_book, two_press
 
@@ -46,6 +55,8 @@ BARS = [["blue", "red"]]
 MOTIFS = [["a", ["red", "blue"]], ["b", ["white"]]]
 STAMPS = [["dot", ["x"]]]
 DEEDS = [["box", 0, 0, 2, 2, "red"], ["again", 2, 0, 1, [["put", "dot", 0, 0, "blue"]]]]
+STEPS = [["set", 0, 1], ["take", 0, 0, 1, 1], ["grow", 0, 1]]
+LOOKS = [[0, 0], [0, 1]]
 
 
 class ArgumentsTest(unittest.TestCase, Checks):
@@ -83,7 +94,7 @@ class ArgumentsTest(unittest.TestCase, Checks):
             (judge_tapes, band, Book(), ["never", "red"], tapes),
             (Plan, MOTIFS, [["a", "b"]], ["a"], ["b"]), (plan.tape_of, ["a", "b"]), (plan.follows, [0, 1]),
             (plan.colour_of, [0, 1]), (plan.without, ["a", "b"]), (plan.__contains__, ["a", "b"]),
-            (judge_designs, band, Book(), plan, ["never", "red"], designs), *self.later_calls())
+            (judge_designs, band, Book(), plan, ["never", "red"], designs), *self.later_calls(), *self.run_calls())
 
     def later_calls(self):
         press, book, page = self.press, self.book, self.page
@@ -112,6 +123,24 @@ class ArgumentsTest(unittest.TestCase, Checks):
             (lambda *told: Bench(press, book, page).recolour(*told), [0, 0, "blue"], [3, 3, "red"]),
             (tried, Bench(press, book, page), [[0, 0, "blue"]], [[1, 1, "red"], [0, 0, "red"]]))
 
+    def run_calls(self):
+        press, book, band, plan, page = self.press, self.book, self.band, self.plan, self.page
+        job, wish = book.made(press, page), [SHUT, ["true"]]
+        patch = Patch(STEPS)
+        rows = [[["yellow", None], [[0, 1]]], [[None, "white"], [[0, -1]]]]
+        hand = Hand(press, LOOKS, rows)
+        course = Course(job, hand)
+        return (
+            (Patch, STEPS), (patch.images, [0, 0]), (judge_patches, patch, patch, listed(PatchPair(patch, patch).table)),
+            (judge_tape_pair, band, book, book, listed(TapePair(band, book, book).table)),
+            (TapeBars, band, book, ["never", "red"], [["red", "red"], ["blue", "blue"]]),
+            (TapeBars(band, book, ["never", "tan"], [["red", "red"]]).__contains__, [0]),
+            (judge_told_back, plan, listed(ToldBack(plan).table)),
+            (judge_within, plan, plan, listed(Within(plan, plan).table)),
+            (Hand, press, LOOKS, rows), (hand, ["yellow", "blue"]), (turned_lie, press, 0, [[0, 1]]),
+            (course.is_run, [0, 1, 0]), (lambda told: tuple(course.sheets(told)), [0, 1, 0]),
+            (RunVerdict, course, page, wish), (judge_run, course, page, wish, [0, 1]), (waste, course, page, wish))
+
     def test_lists_stay_as_they_are(self):
         for call, *told in self.calls():
             kept = [copy.deepcopy(thing) for thing in told if isinstance(thing, list)]
@@ -124,7 +153,8 @@ class ArgumentsTest(unittest.TestCase, Checks):
 
         for call, *told in self.calls():
             one, other = call(*told), call(*[tuples(thing) for thing in told])
-            if isinstance(one, (tuple, str, int, bool, type(None), Picture, Plate, Press, Job, Book, Drawing, Plan, Shelf)):
+            if isinstance(one, (tuple, str, int, bool, type(None), Picture, Plate, Press, Job, Book, Drawing, Plan, Shelf,
+                                Patch, Hand)):
                 self.assertEqual(one, other)
                 self.assert_tuples(one)
             else:

@@ -1,6 +1,6 @@
 import unittest
 
-from strayplates.common import Finding, Lines, is_ascending, is_integer, is_within, least_lots, line_of, lots, plain
+from strayplates.common import Finding, Lines, Walk, is_ascending, is_integer, is_within, least_lots, line_of, lots, plain
 from strayplates.errors import BadLine
 from tests.tools import ODD, Checks
 from tests.tools import lots as told_lots
@@ -62,7 +62,7 @@ class CommonTest(unittest.TestCase, Checks):
             self.assert_error(BadLine, {"line": 0, "word": 0}, walk.integer, -1, 1)
 
     def test_steps_to(self):
-        class Ring:
+        class Ring(Walk):
             start = 0
 
             def moves(self, standing):

@@ -57,6 +57,20 @@ INTERFACE = {
     "reach": "Reach(book,name,colours): __contains__ __len__ __iter__",
     "bench": """Bench(press,book,page): page result history recolour(*changes) back(many=1) __enter__ __exit__;
         restart(bench,page) tried(bench,*rows)""",
+    "patch": """Patch(steps=()): __len__ __iter__ __eq__ __call__(plate) __add__ but(number) always offsets special
+        images(cell)""",
+    "patchpair": "PatchPair(first,second): __bool__ __len__ __iter__; judge_patches(first,second,table)",
+    "patchlean": """exchanged(first,second) undoes(first,second) needless_steps(patch) lean_patch(patch)
+        loses(patch)""",
+    "tapepair": "TapePair(band,first,second): __bool__ __len__ __iter__; judge_tape_pair(band,first,second,table)",
+    "tapebars": "TapeBars(band,book,claim,pairs): __bool__ __len__ __iter__ __contains__",
+    "toldback": "ToldBack(plan): __bool__ __len__ __iter__; judge_told_back(plan,table)",
+    "within": "Within(first,second): __bool__ __len__ __iter__; judge_within(first,second,table) same_tapes(first,second)",
+    "hand": """Hand(press,looks,rows=()): __len__ __iter__ __eq__ __call__(sight) sight(job,number);
+        turned_lie(press,number,turn) followers(press,number,pace)""",
+    "course": "Course(job,hand,*,pace=1,start=0): turned(number) follows(number) is_run(numbers) sheets(numbers)",
+    "runverdict": """RunVerdict(course,page,wish): __bool__ __len__ __iter__; judge_run(course,page,wish,lot)
+        waste(course,page,wish)""",
     "designverdict": """DesignVerdict(band,book,plan,claim): __bool__ __len__ __iter__;
         judge_designs(band,book,plan,claim,table)""",
 }

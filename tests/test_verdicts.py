@@ -5,7 +5,7 @@ from unittest import mock
 from strayplates.band import Band, tape_seen
 from strayplates.book import Book
 from strayplates.claims import holds
-from strayplates.common import Finding
+from strayplates.common import Finding, Walk
 from strayplates.designverdict import DesignVerdict, judge_designs
 from strayplates.errors import BadClaim, TooMany, Unlike
 from strayplates.picture import Picture
@@ -88,13 +88,16 @@ def random_band(chance):
                 bars=[bar for bar in bars if set(bar) <= set(palette)])
 
 
-class Line:
-    """Standings 0, 1, 2 .., up to the last one; the step behind `breaks` breaks the claim."""
+class Line(Walk):
+    """Standings 0, 1, 2 .., up to the last one; the step behind `breaks` breaks the claim, and so does finding `bad`."""
 
     start = 0
 
-    def __init__(self, many, breaks=None):
-        self.many, self.breaks = many, breaks
+    def __init__(self, many, breaks=None, bad=None):
+        self.many, self.breaks, self.bad = many, breaks, bad
+
+    def fails(self, standing):
+        return standing == self.bad
 
     def moves(self, standing):
         found = [("back", None, 0)]
@@ -114,6 +117,16 @@ class FindingTest(unittest.TestCase, Checks):
         told = Finding(Line(2001, 1999), 2000).told_steps()
         self.assertEqual((len(told), told[-2:]), (2000, [("on", 1998), ("broken", 1999)]))
         self.assert_error(TooMany, {"word": "standing"}, Finding, Line(2001, 2000), 2000)
+
+
+    def test_standings_that_break_the_claim(self):
+        told = Finding(Line(2001, bad=1999), 2000)
+        self.assertEqual((told.standings[-1], told.told_steps()[-1]), (1999, ("on", 1998)))
+        # A standing too much is not judged any more.
+        self.assert_error(TooMany, {"word": "standing"}, Finding, Line(2001, bad=2000), 2000)
+        self.assert_error(TooMany, {"word": "lot"}, Finding, Line(2001, bad=2000), 2000, "lot")
+        self.assertEqual(len(Finding(Line(2001, bad=2000), 2001).told_steps()), 2000)
+        self.assertEqual(len(Finding(Line(2001, bad=2000), None).told_steps()), 2000)
 
 
 class TapeVerdictTest(unittest.TestCase, Checks):
