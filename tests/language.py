@@ -348,7 +348,8 @@ class Package:
             if not method or told not in ("property", "staticmethod", "classmethod") and not told.endswith(".setter"):
                 self.complain(name, function, "L4", f"the decorator {told}")
         for value in function.args.defaults + [part for part in function.args.kw_defaults if part is not None]:
-            if not isinstance(value, ast.Constant) and not (isinstance(value, ast.Tuple) and not value.elts):
+            parts = value.elts if isinstance(value, ast.Tuple) else [value]
+            if not all(isinstance(part, ast.Constant) for part in parts):
                 self.complain(name, function, "L4", "a default value")
         if is_dunder(function.name):
             self.check_dunder(name, function, method)

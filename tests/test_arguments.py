@@ -11,6 +11,7 @@ from strayplates.bookpair import BookPair, judge_books
 from strayplates.cases import Cases, judge_cases
 from strayplates.claims import breach, holds, is_claim, places
 from strayplates.course import Course
+from strayplates.cuts import first_cut
 from strayplates.designverdict import DesignVerdict, judge_designs
 from strayplates.dockettext import read_docket, read_picture, read_plate, write_docket
 from strayplates.drawing import Drawing, hidden, lean_drawing
@@ -18,7 +19,13 @@ from strayplates.errors import PlateError
 from strayplates.forms import forms, met
 from strayplates.hand import Hand, turned_lie
 from strayplates.job import Job
+from strayplates.keep import Keep, judge_keep
+from strayplates.keptinks import KeptInks
+from strayplates.known import Known
+from strayplates.layout import Layout, opposite
+from strayplates.leastsights import LeastSights
 from strayplates.looks import Looks
+from strayplates.lost import Lost
 from strayplates.orders import Orders
 from strayplates.pagebars import PageBars
 from strayplates.pagetext import read_page
@@ -32,9 +39,11 @@ from strayplates.plate import Plate
 from strayplates.press import Press
 from strayplates.reach import Reach
 from strayplates.readers import Reader
+from strayplates.remake import Remake
 from strayplates.remedies import Remedies
 from strayplates.rulework import idle_rules, lean_book, least_pages, needless_rules
 from strayplates.runverdict import RunVerdict, judge_run, waste
+from strayplates.sheetverdict import SheetVerdict
 from strayplates.shelf import Shelf
 from strayplates.shelfpair import ShelfPair, judge_shelves
 from strayplates.shelftext import read_book, read_press, read_shelf
@@ -42,6 +51,7 @@ from strayplates.stacks import Stacks, judge_stacks
 from strayplates.tapebars import TapeBars
 from strayplates.tapepair import TapePair, judge_tape_pair
 from strayplates.tapeverdict import TapeVerdict, judge_tapes
+from strayplates.tells import Tells, judge_tells
 from strayplates.toldback import ToldBack, judge_told_back
 from strayplates.traps import Traps, judge_traps
 from strayplates.verdict import Verdict
@@ -57,6 +67,18 @@ STAMPS = [["dot", ["x"]]]
 DEEDS = [["box", 0, 0, 2, 2, "red"], ["again", 2, 0, 1, [["put", "dot", 0, 0, "blue"]]]]
 STEPS = [["set", 0, 1], ["take", 0, 0, 1, 1], ["grow", 0, 1]]
 LOOKS = [[0, 0], [0, 1]]
+COPIES = [[0, 0, False], [3, 3, True]]
+
+
+def state(thing):
+    """All that a thing holds, at any depth."""
+    if isinstance(thing, (list, tuple)):
+        return type(thing), [state(part) for part in thing]
+    if isinstance(thing, dict):
+        return dict, [(state(key), state(value)) for key, value in thing.items()]
+    if hasattr(thing, "__dict__") and not callable(thing) or isinstance(thing, (Patch, Hand)):
+        return type(thing), state(vars(thing))
+    return thing
 
 
 class ArgumentsTest(unittest.TestCase, Checks):
@@ -94,7 +116,8 @@ class ArgumentsTest(unittest.TestCase, Checks):
             (judge_tapes, band, Book(), ["never", "red"], tapes),
             (Plan, MOTIFS, [["a", "b"]], ["a"], ["b"]), (plan.tape_of, ["a", "b"]), (plan.follows, [0, 1]),
             (plan.colour_of, [0, 1]), (plan.without, ["a", "b"]), (plan.__contains__, ["a", "b"]),
-            (judge_designs, band, Book(), plan, ["never", "red"], designs), *self.later_calls(), *self.run_calls())
+            (judge_designs, band, Book(), plan, ["never", "red"], designs), *self.later_calls(), *self.run_calls(),
+            *self.sheet_calls())
 
     def later_calls(self):
         press, book, page = self.press, self.book, self.page
@@ -141,11 +164,39 @@ class ArgumentsTest(unittest.TestCase, Checks):
             (course.is_run, [0, 1, 0]), (lambda told: tuple(course.sheets(told)), [0, 1, 0]),
             (RunVerdict, course, page, wish), (judge_run, course, page, wish, [0, 1]), (waste, course, page, wish))
 
-    def test_lists_stay_as_they_are(self):
+    def sheet_calls(self):
+        press, book, page = self.press, self.book, self.page
+        job, wish, turns = book.made(press, page), [SHUT, ["true"]], [[[0, 0]], [[0, -1]]]
+        known = Known(job, LOOKS, turns)
+        keep = Keep(known, page, wish)
+        pull = job.true_picture
+        lost = Lost(job, 0, [pull])
+        covered = Lost(Job(Press(Shelf([SUN, ["lid", "tan", []]]), [["sun", 0], ["lid", 0]]), [Plate(), Plate([[0, 0]])]), 0,
+                       [Picture([[0, 0, "tan"]])])
+        tells = listed(Tells(book, PALETTE, ["sky", "sun"]).table)
+        layout = Layout(1, 2, COPIES)
+        return (
+            (lambda *told: Known(job, *told, first=[0, 1]), LOOKS, turns),
+            (lambda *told: judge_keep(job, *told), LOOKS, turns, page, wish, listed(keep.table)),
+            (lambda *told: LeastSights(job, *told, first=[0]), LOOKS, turns, page, wish), (Keep, known, page, wish),
+            (LeastSights(job, LOOKS, turns, page, [["never", "tan"]]).__contains__, [0]),
+            (Lost, job, 0, [pull, pull]), (lost.fits, job.plates[0]), (covered.with_cell, [0, 0]), (covered.without_cell, [0, 0]),
+            (Remake(press, 0).remade, job, [[0, 1]], job.shown([[0, 1]])), (Tells, book, PALETTE, ["sky"]),
+            (judge_tells, book, PALETTE, ["sky", "sun"], None, tells), (KeptInks, book, PALETTE, ["sky", "sun"]),
+            (KeptInks(book, PALETTE, ["sky", "sun"]).__contains__, [0, 1]), (Layout, 1, 2, COPIES), (opposite, [[1, -2]]),
+            (SheetVerdict, layout, job, page, wish), (first_cut, layout, [0, 1]))
+
+    def test_what_is_passed_stays_as_it_is(self):
         for call, *told in self.calls():
-            kept = [copy.deepcopy(thing) for thing in told if isinstance(thing, list)]
+            kept = [state(thing) for thing in told]
+            owner = getattr(call, "__self__", None)
+            if owner is None or isinstance(owner, type):
+                owner = ()
+            own = {word: state(thing) for word, thing in getattr(owner, "__dict__", {}).items() if not word.startswith("_")}
             call(*told)
-            self.assertEqual([thing for thing in told if isinstance(thing, list)], kept)
+            self.assertEqual([state(thing) for thing in told], kept)
+            for word, thing in own.items():
+                self.assertEqual(state(getattr(owner, word)), thing)
 
     def test_tuples_bring_the_same(self):
         def tuples(thing):
@@ -154,7 +205,7 @@ class ArgumentsTest(unittest.TestCase, Checks):
         for call, *told in self.calls():
             one, other = call(*told), call(*[tuples(thing) for thing in told])
             if isinstance(one, (tuple, str, int, bool, type(None), Picture, Plate, Press, Job, Book, Drawing, Plan, Shelf,
-                                Patch, Hand)):
+                                Patch, Hand, Layout)):
                 self.assertEqual(one, other)
                 self.assert_tuples(one)
             else:

@@ -1,5 +1,7 @@
 import importlib
 import inspect
+import pathlib
+import re
 import unittest
 
 # For each module: its functions with their parameters, and its classes with those of their own methods;
@@ -71,6 +73,18 @@ INTERFACE = {
     "course": "Course(job,hand,*,pace=1,start=0): turned(number) follows(number) is_run(numbers) sheets(numbers)",
     "runverdict": """RunVerdict(course,page,wish): __bool__ __len__ __iter__; judge_run(course,page,wish,lot)
         waste(course,page,wish)""",
+    "known": "Known(job,looks,turns,*,pace=1,first=(0,)): __len__ __iter__ parts(number) after(number,part,turn)",
+    "keep": """Keep(known,page,wish): __bool__ __len__ __iter__ value(number) plan(number,part) attack(number);
+        judge_keep(job,looks,turns,page,wish,table,*,pace=1,first=(0,))""",
+    "leastsights": "LeastSights(job,looks,turns,page,wish,*,pace=1,first=(0,)): __bool__ __len__ __iter__ __contains__",
+    "lost": "Lost(job,number,pulls): __bool__ fits(plate) with_cell(cell) without_cell(cell)",
+    "remake": "Remake(press,number): __bool__ __len__ __iter__ remade(job,lie,pull)",
+    "tells": "Tells(book,colours,kept,aim=None): __bool__ __len__ __iter__; judge_tells(book,colours,kept,aim,table)",
+    "keptinks": "KeptInks(book,colours,inks): __bool__ __len__ __iter__ __contains__",
+    "layout": """Layout(height,width,copies): __getitem__ __len__ __iter__ __eq__ sheet(job) view(picture,number,*,margin=0)
+        apart(margin); opposite(lie)""",
+    "sheetverdict": "SheetVerdict(layout,job,page,wish,*,margin=0): __bool__",
+    "cuts": "Cuts(layout): __bool__ __len__ __iter__; first_cut(layout,lot)",
     "designverdict": """DesignVerdict(band,book,plan,claim): __bool__ __len__ __iter__;
         judge_designs(band,book,plan,claim,table)""",
 }
@@ -89,6 +103,20 @@ class InterfaceTest(unittest.TestCase):
             function = getattr(holder, name)
             self.assertEqual(told_parameters(function), rest[:-1], f"{holder.__name__}.{name}")
             self.assertEqual(function.__module__, module)
+
+    def test_all_headings(self):
+        # All modules stand under a heading, but for what they share, and for the errors, which test_errors_words checks.
+        folder = pathlib.Path(__file__).resolve().parent.parent / "strayplates"
+        files = {path.stem for path in folder.glob("*.py")}
+        self.assertEqual(files - {"__init__", "common", "errors"}, set(INTERFACE))
+        self.assertEqual(len(INTERFACE), 57)
+
+    def test_document(self):
+        """Where the document stands beside the project, its headings are these."""
+        document = pathlib.Path(__file__).resolve().parent.parent.parent / "shared" / "DOC.md"
+        if document.exists():
+            headings = re.findall(r"^## strayplates/(\w+)\.py$", document.read_text(encoding="utf-8"), re.M)
+            self.assertEqual(sorted(headings), sorted([*INTERFACE, "errors"]))
 
     def test_names_and_parameters(self):
         for word, told in INTERFACE.items():

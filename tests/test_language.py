@@ -53,6 +53,7 @@ BAD = (
     ("L15", "LIMIT = 4\n"), ("L15", "def sum(rows):\n    return rows\n"), ("L15", "def f(id):\n    return id\n"),
     ("L15", "def f(helped):\n    return helped\n"), ("L15", "def f():\n    Box = 1\n    return Box\n"),
     ("L4", "@told\ndef f():\n    return 1\n"), ("L4", "def f(a=[]):\n    return a\n"),
+    ("L4", "def f(a=([],)):\n    return a\n"), ("L4", "def f(*, a=(told,)):\n    return a\n"),
     ("L5", "class A(Box, Box):\n    pass\n"), ("L5", "class A:\n    def __hash__(self):\n        return 1\n"),
     ("L5", "class A:\n    def __getitem__(self, at):\n        return at\n"),
     ("L5", "class A:\n    def __iter__(self):\n        for k in (1, 2):\n            yield k\n"),
