@@ -46,9 +46,8 @@ class Course:
 
     def sheets(self, numbers):
         """The pictures of the sheets of a run."""
-        told = plain(numbers)
-        wrong = self._first_wrong(told)
-        for number in told[:wrong]:
+        wrong = self._first_wrong(numbers)
+        for number in numbers[:wrong]:
             yield self.job.shown(self.job.press.lies[number])
         if wrong is not None:
             raise BadRun(wrong)

@@ -36,9 +36,8 @@ class Hand:
                 raise BadHand(number)
 
     def __call__(self, sight):
-        told = plain(sight)
         for pattern, turn in self.rows:
-            if _fits(pattern, told):
+            if _fits(pattern, sight):
                 return turn
         return tuple([(0, 0) for _ in self.press.boxes])
 
@@ -73,7 +72,7 @@ def _stopped(number, low, high):
 def turned_lie(press, number, turn):
     """The number of the lie to which the turn leads, each number of which stops at the ends of its box."""
     pairs = []
-    for (row, column), (rows, columns), box in zip(lie_of(press, number), plain(turn), press.boxes):
+    for (row, column), (rows, columns), box in zip(lie_of(press, number), turn, press.boxes):
         up, down, left, right = box
         pairs.append((_stopped(row + rows, -up, down), _stopped(column + columns, -left, right)))
     return press.number_of(pairs)

@@ -56,7 +56,7 @@ class TwoTapes(Walk):
         return found
 
     def _is_behind(self, thing):
-        return is_tuple(thing, 2, 2) and all([is_word(colour) and colour in self._shades for colour in thing])
+        return is_tuple(thing, 2, 2) and all([colour in self._shades for colour in thing])
 
     def has_form(self, row):
         if not is_tuple(row, 3, 3) or not isinstance(row[2], bool):

@@ -332,13 +332,22 @@ class JudgeKeepTest(unittest.TestCase, Checks):
         self.assertIsNone(self.judge(listed(self.table)))
         self.assertIsNone(self.judge((*self.table, *self.table[::-1])))
         self.assertIsNone(self.judge((self.table[0], *self.table[::-1])))
+        # Values that differ from part to part: the least one counts.
+        self.turns = (ON, STILL)
+        table = Keep(Known(self.job, LOOKS[:2], self.turns), self.page, self.wish).table
+        self.assertEqual((dict(table)[(0,)], dict(table)[(0, 1, 2)]), (2, 1))
+        self.assertIsNone(self.judge(table))
+        self.turns = (STILL, BACK)
+        six = tuple([(0, k) for k in range(6)])
+        table = Keep(Known(self.job, six, self.turns), self.page, self.wish).table
+        self.assertIsNone(judge_keep(self.job, six, self.turns, self.page, self.wish, table))
         # More lots than are needed, if their next ones are there; and the lot without lies.
         self.assertIsNone(self.judge((*self.table, ((2, 3), 0), ((3,), 0), ((), -1))))
 
     def test_wrong_as_a_whole(self):
         first = self.table[0]
         for thing in (None, 3, "ab", {}, (), self.table[1:], (None, *self.table), ((first,), *self.table), ("ab", *self.table),
-                      ((*first, 0), *self.table), (((False,), -1), *self.table[1:]), (((0, 1), -1), *self.table), (first[0], *self.table),
+                      ((*first, 0), *self.table), (((0,),), *self.table), ((), *self.table), (((False,), -1), *self.table[1:]), (((0, 1), -1), *self.table), (first[0], *self.table),
                       (((0.0,), -1), *self.table)):
             self.assertEqual(self.judge(thing), -1)
         # A first row that begins with the first lot is wrong in its place, whatever stands behind it.
@@ -353,9 +362,17 @@ class JudgeKeepTest(unittest.TestCase, Checks):
                     ((True,), -1), ((0, True), -1), ((0,), True), ((0,), None), ((0,), -2), ((0,), "0"), ((None,), 0), (((0,),), 0)):
             self.assertEqual(self.judge((*self.table, row)), len(self.table), row)
             self.assertEqual(self.judge((self.table[0], listed(row), *self.table[1:])), 1)
-        # They stand for nothing: the first row with a form counts.
-        number = self.table.index(((0, 1, 2), -1))
-        self.assertEqual(self.judge((*self.table[:number], ((0, 1, 2), -2), *self.table[number:])), number)
+        # They stand for nothing: the first row with a form counts, also for the first lot, which leads to that one alone.
+        self.turns = (BACK,)
+        table = Keep(Known(self.job, LOOKS[:2], self.turns), self.page, self.wish).table
+        self.assertEqual(table[:2], (((0,), -1), ((0, 1), -1)))
+        for value in (-2, True, None, "5"):
+            self.assertEqual(self.judge((table[0], ((0, 1), value), *table[1:])), 1)
+        self.turns = (ON,)
+        table = Keep(Known(self.job, LOOKS[:2], self.turns), self.page, self.wish).table
+        self.assertEqual(table[:2], (((0,), 1), ((0, 2, 3), 0)))
+        for value in (-2, -3, False, None):
+            self.assertEqual(self.judge((table[0], ((0, 2, 3), value), *table[1:])), 1)
 
     def test_the_first_row_of_a_lot_counts(self):
         wrong = ((0, 1, 2), 5)

@@ -282,7 +282,7 @@ class PatchPairTest(unittest.TestCase, Checks):
             self.assertEqual(judge_patches(first, second, thing), -1)
         for row in (None, 3, "ab", (), (None,), (None, (), ()), ((0, 0), None), ((0, 0), "ab"), ((0, True), ((0, 0), (0, 1))),
                     ((0,), ()), ("ab", ()), ((0, 0), ((0, 0), (0, True))), ((0, 0), ((0, 0), (0, 1, 0))), ((0, 0), (None,)),
-                    ((0, 0), ((0, 0), 1)), (True, ())):
+                    ((0, 0), ((0, 0), 1)), (True, ()), ({1: 2}, ())):
             self.assertEqual(judge_patches(first, second, (*table, row)), 4)
             self.assertEqual(judge_patches(first, second, [listed(row), *table]), 0)
             # Such a row stands for nothing, so that the row of (0, 0) lacks.
@@ -386,10 +386,10 @@ class LosesTest(unittest.TestCase, Checks):
         chance = rng(509)
         lost = kept = 0
         window = [(row, column) for row in range(-12, 13) for column in range(-12, 13)]
-        for _ in range(300):
+        for _ in range(600):
             kinds = chance.choice((("move", "take"), ("move", "join", "take"), ("move", "clear", "join"), ("move",),
-                                   ("move", "set", "join", "clear", "take", "grow")))
-            patch = random_patch(chance, chance.randint(0, 4), kinds=kinds)
+                                   ("take", "clear", "move"), ("take", "join", "clear", "set"), ("move", "set", "join", "clear", "take", "grow")))
+            patch = random_patch(chance, chance.randint(0, 5), kinds=kinds, reach=chance.randint(1, 2))
             always = made(patch.steps, ())
             images = {cell: made(patch.steps, {cell}) - always for cell in window}
             sources = {}

@@ -113,6 +113,8 @@ class TellsTest(unittest.TestCase, Checks):
                 self.assert_error(BadKept, {"number": -1}, call, book, PALETTE, thing, *told)
             for thing in (None, 3, "Red", "", ("b",), "a", "aa", "abcdefghi", True):
                 self.assert_error(BadKept, {"number": 2}, call, book, PALETTE, ("a", "aa", thing, None), *told)
+            for thing in ("a", "b", "aa", None):
+                self.assert_error(BadKept, {"number": 1}, call, book, PALETTE, ("b", thing), *told)
         self.assertEqual(len(Tells(book, PALETTE, ("a", "b", "sky", "sun")).table), len(Tells(book, PALETTE, ("sky", "sun")).table))
 
     def test_against_all_short_tapes(self):
