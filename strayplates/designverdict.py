@@ -14,7 +14,7 @@ class DesignWalk(Walk):
             raise Unlike("colours")
         self.band = band
         self.book = book
-        self.plan = plan
+        self._plan = plan
         self.reader = Reader(claim)
         self.start = (BEGINNING, band.beginning, None, self.reader.start)
 
@@ -23,8 +23,8 @@ class DesignWalk(Walk):
         band = self.band
         place, behind, lies, state = standing
         found = []
-        for further in self.plan.follows(place):
-            window = (*behind, self.plan.colour_of(further))
+        for further in self._plan.follows(place):
+            window = (*behind, self._plan.colour_of(further))
             printings = band.printings(self.book, window)
             for other in band.drifts(lies):
                 seen = band.shown(printings, other)
@@ -37,7 +37,7 @@ class DesignWalk(Walk):
         if not is_tuple(row, 4, 4):
             return False
         place, behind, lies, state = row
-        if not self.plan.is_place(place) or not self.band.is_behind(behind):
+        if not self._plan.is_place(place) or not self.band.is_behind(behind):
             return False
         if lies is not None and not self.band.is_lies(lies):
             return False

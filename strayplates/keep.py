@@ -46,7 +46,7 @@ class Keep:
         self._known = known
         self._nexts = [known.nexts(number) for number in range(len(known.table))]
         self._values = values_of(known.table, self._nexts, good_lies(known.job, page, told))
-        self.table = tuple(list(zip(known.table, self._values)))
+        self.table = tuple(zip(known.table, self._values))
 
     def __bool__(self):
         return bool(self._values[0] == -1)

@@ -84,7 +84,7 @@ class Lots:
         self.walk = walk
         self.lots = tuple(Finding(walk, 300, "lot").standings)
         self._numbers = {lot: number for number, lot in enumerate(self.lots)}
-        self.nexts = tuple([self._next_numbers(lot) for lot in self.lots])
+        self.leads = tuple([self._next_numbers(lot) for lot in self.lots])
 
     def _next_numbers(self, lot):
         return tuple([tuple([self._numbers[follow] for follow in follows]) for follows in self.walk.nexts(lot)])
@@ -110,7 +110,7 @@ class Known:
         """For each part of the lot with this number the numbers of the next lots, one for each turn."""
         if not is_number_of(number, self.table):
             raise NoLot(number)
-        return self._lots.nexts[number]
+        return self._lots.leads[number]
 
     def parts(self, number):
         """The parts of the lot with this number."""

@@ -50,14 +50,14 @@ class Layout:
             return False
         return self.height == other.height and self.width == other.width
 
-    def _has(self, cell):
+    def _lies_on_page(self, cell):
         """Whether the cell lies within the box of the page."""
         return 0 <= cell[0] < self.height and 0 <= cell[1] < self.width
 
     def sheet(self, job):
         """The job of the sheet, made of the job of a page."""
         for number, plate in enumerate(job.plates):
-            if not all([self._has(cell) for cell in plate]):
+            if not all([self._lies_on_page(cell) for cell in plate]):
                 raise BadJob(number)
         return Job(job.press, [self._copied(plate) for plate in job.plates])
 

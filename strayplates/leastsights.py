@@ -20,7 +20,7 @@ class LeastSights:
         for lot in lots(len(menu)):
             seen = [tuple([sight[number] for number in lot]) for sight in sights]
             found = Lots(LotWalk(start, seen, drifts))
-            rows.append((lot, values_of(found.lots, found.nexts, good)[0]))
+            rows.append((lot, values_of(found.lots, found.leads, good)[0]))
         self.table = tuple(rows)
         self._enough = {lot: True for lot, value in rows if value == -1}
         self._least = least_lots(list(self._enough))

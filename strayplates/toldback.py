@@ -11,7 +11,7 @@ class SideBySide(Walk):
     """The standings of two designs of a plan that are gone through side by side, with the same colours."""
 
     def __init__(self, plan):
-        self.plan = plan
+        self._plan = plan
         self.start = (BEGINNING, BEGINNING, False)
 
     def fails(self, standing):
@@ -19,7 +19,7 @@ class SideBySide(Walk):
 
     def moves(self, standing):
         """For each pair of next places, as tuples in order: the pair, nothing, and the standing that follows."""
-        plan = self.plan
+        plan = self._plan
         place, other, parted = standing
         if END in (place, other):
             return []
@@ -33,7 +33,7 @@ class SideBySide(Walk):
     def has_form(self, row):
         if not is_tuple(row, 3, 3) or not isinstance(row[2], bool):
             return False
-        return self.plan.is_place(row[0]) and self.plan.is_place(row[1])
+        return self._plan.is_place(row[0]) and self._plan.is_place(row[1])
 
 
 class ToldBack:

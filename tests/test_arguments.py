@@ -76,7 +76,7 @@ def state(thing):
         return type(thing), [state(part) for part in thing]
     if isinstance(thing, dict):
         return dict, [(state(key), state(value)) for key, value in thing.items()]
-    if hasattr(thing, "__dict__") and not callable(thing) or isinstance(thing, (Patch, Hand)):
+    if type(thing).__module__.startswith("strayplates."):
         return type(thing), state(vars(thing))
     return thing
 
@@ -198,6 +198,16 @@ class ArgumentsTest(unittest.TestCase, Checks):
             for word, thing in own.items():
                 self.assertEqual(state(getattr(owner, word)), thing)
 
+    def test_the_same_asked_again(self):
+        """What was asked between two calls, and of which object, makes no difference."""
+        first = [state(call(*told)) for call, *told in self.calls()]
+        calls = self.calls()
+        second = [state(call(*told)) for call, *told in reversed(calls)][::-1]
+        third = [state(call(*told)) for call, *told in calls]
+        for one, two, three in zip(first, second, third):
+            self.assertEqual(one, two)
+            self.assertEqual(one, three)
+
     def test_tuples_bring_the_same(self):
         def tuples(thing):
             return tuple([tuples(part) for part in thing]) if isinstance(thing, list) else thing
@@ -209,7 +219,7 @@ class ArgumentsTest(unittest.TestCase, Checks):
                 self.assertEqual(one, other)
                 self.assert_tuples(one)
             else:
-                self.assertEqual(vars(one).keys(), vars(other).keys())
+                self.assertEqual(state(one), state(other))
 
     def test_objects_that_are_asked_by_turns(self):
         still = Band(self.press, PALETTE, pace=0)

@@ -56,7 +56,8 @@ class PlanTest(unittest.TestCase, Checks):
         six = tuple([(letter, ("red",) * 6) for letter in "abcdef"])
         self.assertEqual(len(Plan(six)), 6)
         for motifs in (None, (), "ab", six + (("g", ("red",)),), (("a",),), (("a", ()),), (("a", ("red",) * 7),),
-                       (("a", "red"),), (("a", ("Red",)),), (("a", (1,)),), (("A", ("red",)),), (None,),
+                       (("a", "red"),), (("a", ("Red",)),), (("a", (1,)),), (("a", ("red", "Red")),),
+                       (("a", ("red",)), ("b", ())), (("a", ("red",)), ("b", ("red",)), None), (("A", ("red",)),), (None,),
                        (("a", ("red",)), ("a", ("blue",))), (("a", ("red",), 1),), {"a": ("red",)}, (([], ("red",)),)):
             self.assert_error(BadPlan, {"word": "motifs"}, Plan, motifs, None, None, None)
 

@@ -167,7 +167,8 @@ class TapePairTest(unittest.TestCase, Checks):
         behind, lies = table[-1]
         for thing in (None, "ab", 3, {}, (), table[1:], (None,), ((("white",) * 3, ()),)):
             self.assertEqual(judge_tape_pair(band, book, book, thing), -1)
-        for row in (None, (), "ab", 3, (behind,), (behind, lies, 0), (behind[1:], lies), (("blue",) * 3, lies), ("red", lies),
+        for row in (None, (), "ab", 3, (behind,), (behind, lies, 0), (behind[1:], lies), (("blue",) * 3, lies), (("white", "white", "blue"), lies),
+                    (("tan", "red", "red"), lies), ("red", lies),
                     (("Red",) * 3, lies), (behind, (2,)), (behind, (-1,)), (behind, (True,)), (behind, ()), (behind, (0, 0)),
                     (behind, "0"), (behind, 0), (None, lies), ((1, 2, 3), lies), ((("red",),) * 3, lies)):
             self.assertEqual(judge_tape_pair(band, book, book, (*table, row)), len(table))
