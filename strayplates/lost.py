@@ -151,10 +151,12 @@ class Lost:
         """The plate with this open cell, of the first choice for which there is one, with the fewest cells."""
         told = self._judged_open(cell)
         fitting = [self._cells(choice) for choice in self.choices]
-        return plate_of([*[must for must, can in fitting if told in can][0], told])
+        having = [must for must, can in fitting if told in can]
+        return plate_of([*having[0], told])
 
     def without_cell(self, cell):
         """The plate without this open cell, of the first choice for which there is one, with the fewest cells."""
         told = self._judged_open(cell)
         fitting = [self._cells(choice) for choice in self.choices]
-        return plate_of([must for must, _ in fitting if told not in must][0])
+        lacking = [must for must, _ in fitting if told not in must]
+        return plate_of(lacking[0])
